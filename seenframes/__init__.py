@@ -1,0 +1,1 @@
+"""Seenframes: trees of switches, told from who saw which frame."""
