@@ -2,7 +2,7 @@
 
 from seenframes.cuts import sides_told
 from seenframes.errors import BadFour, BadParting, BadText, NoHost
-from seenframes.names import are_names, ascending
+from seenframes.names import are_names, ascending, fours_of
 
 
 class Parting:
@@ -81,3 +81,30 @@ def answers_of(four):
         raise BadFour(four)
     a, b, c, d = ascending(four)
     return (None, Parting((a, b), (c, d)), Parting((a, c), (b, d)), Parting((a, d), (b, c)))
+
+
+def answer_marked(marks, four):
+    """The answer of a tree for an ascending tuple of four of its hosts. The marks of a host are a number
+    with a bit for each cut of the tree that has the host on its far side."""
+    a, b, c, d = four
+    if parts(marks, a, b, c, d):
+        return Parting((a, b), (c, d))
+    if parts(marks, a, c, b, d):
+        return Parting((a, c), (b, d))
+    if parts(marks, a, d, b, c):
+        return Parting((a, d), (b, c))
+    return None
+
+
+def parts(marks, a, b, c, d):
+    """Whether some cut has a and b on one side and c and d on the other one."""
+    alike = ~((marks[a] ^ marks[b]) | (marks[c] ^ marks[d]))
+    return ((marks[a] ^ marks[c]) & alike) != 0
+
+
+def partings_of(tree):
+    """All partings that hold in a tree, ascending."""
+    for four in fours_of(tree.hosts):
+        answer = answer_marked(tree.marks, four)
+        if answer is not None:
+            yield answer

@@ -235,7 +235,8 @@ class HistoryParts(Case):
         self.raises(BadIndex(0), History().without, 0)
 
     def test_swapped(self):
-        self.same([self.row.swapped(0), self.row.swapped(2)], [History(BA, AB, TO_ALL, CB), History(AB, BA, CB, TO_ALL)])
+        self.same([self.row.swapped(0), self.row.swapped(2)],
+                  [History(BA, AB, TO_ALL, CB), History(AB, BA, CB, TO_ALL)])
         self.same(self.row.swapped(k=1), History(AB, TO_ALL, BA, CB))
         for value in [-1, 3, 4, -2, 10 ** 59, *no_integers()]:
             self.raises(BadIndex(value), self.row.swapped, value)

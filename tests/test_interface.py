@@ -8,7 +8,9 @@ FUNCTIONS = {
     "names": ["is_name(value)", "hosts_of(values, most=40)", "fours_of(hosts)", "fives_of(hosts)"],
     "frames": ["frames_among(hosts, with_all=False)"],
     "cuts": ["first_crossing(cuts)"],
-    "partings": ["answers_of(four)"],
+    "trees": ["all_trees(hosts)", "count_trees(n, cuts=None)"],
+    "partings": ["answers_of(four)", "partings_of(tree)"],
+    "tables": ["first_misfit(table)"],
 }
 # A plain name is an attribute or a property, the rest are the constructor and the methods.
 CLASSES = {
@@ -23,14 +25,30 @@ CLASSES = {
         "__init__(self, one, other)", "makes(self, parting)", "crosses(self, other)", "only(self, hosts)",
         "__lt__(self, other)", "__le__(self, other)", "__gt__(self, other)", "__ge__(self, other)",
         "__eq__(self, other)", "__str__(self)", "read(cls, text)"],
+    ("trees", "Tree"): [
+        "__init__(self, hosts, cuts=())", "star(cls, *hosts)", "__len__(self)", "__contains__(self, x)",
+        "__call__(self, a, b, c, d)", "__and__(self, other)", "__or__(self, other)", "__xor__(self, other)",
+        "__le__(self, other)", "__lt__(self, other)", "__ge__(self, other)", "__gt__(self, other)",
+        "__eq__(self, other)", "only(self, hosts)", "renamed(self, names)", "home(self, host)",
+        "way(self, one, other)", "__str__(self)", "read(cls, text)"],
+    ("webs", "Web"): [
+        "__init__(self, links, places)", "of_tree(cls, tree)", "home(self, host)", "__eq__(self, other)",
+        "cut_of(self, one, other)", "needless(self)", "without(self, switch)", "lean(self)"],
     ("partings", "Parting"): [
         "__init__(self, one, other)", "mate(self, host)", "__lt__(self, other)", "__le__(self, other)",
         "__gt__(self, other)", "__ge__(self, other)", "__eq__(self, other)", "__str__(self)", "read(cls, text)"],
+    ("tables", "Table"): [
+        "__init__(self, hosts)", "of_tree(cls, tree)", "__getitem__(self, at)", "__setitem__(self, at, worth)",
+        "__call__(self, a, b, c, d)", "__len__(self)", "__contains__(self, x)", "each(self)", "rebuilt(self)",
+        "only(self, hosts)", "twin(self)", "__eq__(self, other)", "__le__(self, other)", "__ge__(self, other)",
+        "trial(self)", "tried(self, work)"],
 }
-CLASS_METHODS = {"read", "of"}
+CLASS_METHODS = {"read", "of", "star", "of_tree"}
 SHOWN = {
     "Frame": ["sender", "target", "is_to_all"], "History": ["frames", "hosts", "MOST"],
-    "Cut": ["near", "far", "hosts"], "Parting": ["four", "pairs"],
+    "Cut": ["near", "far", "hosts"], "Tree": ["hosts", "cuts", "links", "MOST"],
+    "Web": ["hosts", "switches", "links", "places", "tree"], "Parting": ["four", "pairs"],
+    "Table": ["hosts", "is_tree", "MOST"],
 }
 
 
@@ -40,10 +58,13 @@ def module(name):
 
 def made(name):
     """An object of each class."""
+    tree = module("trees").Tree.star("a", "b")
     return {
         "Frame": lambda: module("frames").Frame("a"), "History": lambda: module("frames").History(),
-        "Cut": lambda: module("cuts").Cut(["a", "b"], ["c", "d"]),
+        "Cut": lambda: module("cuts").Cut(["a", "b"], ["c", "d"]), "Tree": lambda: tree,
+        "Web": lambda: module("webs").Web.of_tree(tree),
         "Parting": lambda: module("partings").Parting(["a", "b"], ["c", "d"]),
+        "Table": lambda: module("tables").Table.of_tree(tree),
     }[name]()
 
 
@@ -76,4 +97,6 @@ class Interface(unittest.TestCase):
                 self.assertFalse(inspect.ismethod(getattr(thing, shown)), f"{name}: {shown}")
 
     def test_class_values(self):
-        self.assertEqual(vars(module("frames").History)["MOST"], 60)
+        found = [vars(vars(module(file))[name])["MOST"] for file, name in [
+            ("frames", "History"), ("trees", "Tree"), ("tables", "Table")]]
+        self.assertEqual(found, [60, 40, 12])

@@ -120,8 +120,8 @@ class Files(unittest.TestCase):
 
     def test_words_that_do_not_occur(self):
         for name, text in TEXTS.items():
-            docs = {node.body[0].value.lineno for _, node in nodes((ast.Module, ast.ClassDef, ast.FunctionDef), TREES[name])
-                    if node.body and isinstance(node.body[0], ast.Expr)}
+            holders = nodes((ast.Module, ast.ClassDef, ast.FunctionDef), TREES[name])
+            docs = {node.body[0].value.lineno for _, node in holders if isinstance(node.body[0], ast.Expr)}
             for token in tokenize.generate_tokens(io.StringIO(text).readline):
                 if token.type == tokenize.COMMENT or token.type == tokenize.STRING and token.start[0] in docs:
                     continue
@@ -145,7 +145,9 @@ class Modules(unittest.TestCase):
                     late = True
                     self.assertIsInstance(node, (ast.FunctionDef, ast.ClassDef, ast.Assign), name)
                 if isinstance(node, ast.Assign):
-                    self.assertTrue(len(node.targets) == 1 and isinstance(node.targets[0], ast.Name) and is_plain(node.value))
+                    self.assertEqual(len(node.targets), 1, name)
+                    self.assertIsInstance(node.targets[0], ast.Name, name)
+                    self.assertTrue(is_plain(node.value), name)
 
     def test_imports(self):
         self.assertEqual(list(nodes(ast.Import)), [])
@@ -154,7 +156,8 @@ class Modules(unittest.TestCase):
             self.assertEqual(node.level, 0)
             package, file = node.module.split(".")
             self.assertEqual(package, "seenframes")
-            defined = {part.name for part in TREES[file + ".py"].body if isinstance(part, (ast.FunctionDef, ast.ClassDef))}
+            body = TREES[file + ".py"].body
+            defined = {part.name for part in body if isinstance(part, (ast.FunctionDef, ast.ClassDef))}
             for alias in node.names:
                 self.assertIn(alias.name, defined, name)
                 self.assertIsNone(alias.asname, name)
@@ -227,7 +230,8 @@ class Names(unittest.TestCase):
             above = parents(tree)
             for _, node in nodes(ast.Attribute, tree):
                 if node.attr in METHODS:
-                    self.assertTrue(isinstance(above[node], ast.Call) and above[node].func is node, f"{name}: {node.attr}")
+                    over = above[node]
+                    self.assertTrue(isinstance(over, ast.Call) and over.func is node, f"{name}: {node.attr}")
 
     def test_attributes(self):
         stored = {node.attr for _, node in nodes(ast.Attribute) if isinstance(node.ctx, ast.Store)}
@@ -237,7 +241,8 @@ class Names(unittest.TestCase):
         plain = {part.name for _, holder, part in functions() if holder and "property" not in decorators(part)}
         self.assertFalse(shown & (plain | METHODS))
         self.assertFalse(stored & plain)
-        values = {part.targets[0].id for _, node in nodes(ast.ClassDef) for part in node.body if isinstance(part, ast.Assign)}
+        parts = [part for _, node in nodes(ast.ClassDef) for part in node.body if isinstance(part, ast.Assign)]
+        values = {part.targets[0].id for part in parts}
         self.assertFalse(values & (stored | shown | plain))
         read = {node.attr for _, node in nodes(ast.Attribute) if isinstance(node.ctx, ast.Load)}
         self.assertLessEqual(read, stored | shown | values | plain | METHODS)
@@ -395,7 +400,8 @@ class Classes(unittest.TestCase):
             for part in node.body:
                 self.assertIsInstance(part, (ast.FunctionDef, ast.Assign, ast.Expr), node.name)
                 if isinstance(part, ast.Assign):
-                    self.assertTrue(is_plain(part.value) and not isinstance(part.value, (ast.List, ast.Dict)), node.name)
+                    self.assertTrue(is_plain(part.value), node.name)
+                    self.assertNotIsInstance(part.value, (ast.List, ast.Dict), node.name)
             names = [part.name for part in node.body
                      if isinstance(part, ast.FunctionDef) and "setter" not in decorators(part)]
             self.assertEqual(len(names), len(set(names)), node.name)
@@ -430,7 +436,8 @@ class Classes(unittest.TestCase):
         for name, holder, function in functions():
             if function.name == "__eq__":
                 first = self.rows(function)[0]
-                self.assertEqual(ast.unparse(first), f"if not isinstance(other, {holder.name}):\n    return False", name)
+                wanted = f"if not isinstance(other, {holder.name}):\n    return False"
+                self.assertEqual(ast.unparse(first), wanted, name)
 
     def test_texts_and_lengths(self):
         for name, _, function in functions():

@@ -2,8 +2,9 @@ from itertools import combinations, permutations, product
 
 from seenframes.cuts import Cut
 from seenframes.errors import BadFour, BadParting, BadText, NoHost
-from seenframes.partings import Parting, answers_of
-from tests.support import Case, any_values
+from seenframes.partings import Parting, answers_of, partings_of
+from seenframes.trees import Tree, all_trees
+from tests.support import Case, any_values, caterpillar_cuts, letters
 
 
 class MadePartings(Case):
@@ -89,7 +90,8 @@ class MadePartings(Case):
 class AnswersOf(Case):
 
     def test_answers(self):
-        wanted = (None, Parting(["a", "b"], ["c", "d"]), Parting(["a", "c"], ["b", "d"]), Parting(["a", "d"], ["b", "c"]))
+        wanted = (None, Parting(["a", "b"], ["c", "d"]), Parting(["a", "c"], ["b", "d"]),
+                  Parting(["a", "d"], ["b", "c"]))
         for four in permutations("abcd"):
             self.same(answers_of(four), wanted)
             self.same(answers_of(four=list(four)), wanted)
@@ -102,3 +104,25 @@ class AnswersOf(Case):
         for value in ["abcd", ("a", "b", "c"), ["a", "b", "c", "d", "e"], ["a", "b", "c", "a"], dict.fromkeys("abcd"),
                       ("a", "b", "c", "D"), ("a", "a", "a", "a"), Parting(["a", "b"], ["c", "d"])]:
             self.raises(BadFour(value), answers_of, value)
+
+
+class PartingsOf(Case):
+
+    def test_those_that_hold(self):
+        for many in range(1, 7):
+            hosts = letters(many)
+            for tree in all_trees(hosts):
+                wanted = [parting for four in combinations(hosts, 4) for parting in answers_of(four)[1:]
+                          if any(cut.makes(parting) for cut in tree.cuts)]
+                self.same(list(partings_of(tree)), wanted)
+
+    def test_it_is_a_generator(self):
+        made = partings_of(tree=Tree.star("a", "b", "c", "d"))
+        self.assertTrue(hasattr(made, "send"))
+        self.same(list(made), [])
+
+    def test_forty_hosts(self):
+        tree = Tree(*caterpillar_cuts(40))
+        found = self.soon(lambda: list(partings_of(tree)))
+        self.assertEqual(len(found), 91390)
+        self.assertTrue(all(one < other for one, other in zip(found, found[1:])))

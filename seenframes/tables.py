@@ -1,0 +1,144 @@
+"""Tables: an answer for each four of some hosts."""
+
+from seenframes.checks import check_host, four_asked, four_in
+from seenframes.errors import BadAnswer, Misfit, Unlike
+from seenframes.names import ascending, fives_of, fours_of, hosts_of
+from seenframes.partings import Parting, answer_marked
+from seenframes.trees import Tree, cut_behind
+from seenframes.trials import Trial
+
+
+class Table:
+    """An answer for each four of some hosts. The state has it for each ascending tuple of four."""
+
+    MOST = 12
+
+    def __init__(self, hosts):
+        self.hosts = hosts_of(hosts, self.MOST)
+        self.state = {four: None for four in fours_of(self.hosts)}
+
+    @classmethod
+    def of_tree(cls, tree):
+        """The table of a tree."""
+        table = cls(tree.hosts)
+        for four in fours_of(tree.hosts):
+            table[four] = answer_marked(tree.marks, four)
+        return table
+
+    def __getitem__(self, at):
+        return self.state[four_in(self.hosts, at)]
+
+    def __setitem__(self, at, worth):
+        four = four_in(self.hosts, at)
+        if worth is not None and (not isinstance(worth, Parting) or worth.four != four):
+            raise BadAnswer(worth)
+        self.state[four] = worth
+
+    def __iter__(self):
+        raise TypeError("a table is not iterated over")
+
+    def __call__(self, a, b, c, d):
+        return self.state[four_asked(self.hosts, (a, b, c, d))]
+
+    def __len__(self):
+        return len([answer for answer in self.state.values() if answer is not None])
+
+    def __contains__(self, x):
+        return isinstance(x, Parting) and self.state.get(x.four) == x
+
+    def each(self):
+        """The answers that are partings, ascending."""
+        answers = list(self.state.values())
+        for answer in answers:
+            if answer is not None:
+                yield answer
+
+    @property
+    def is_tree(self):
+        """Whether this is the table of a tree."""
+        return first_misfit(self) is None
+
+    def rebuilt(self):
+        """The tree with this table."""
+        five = first_misfit(self)
+        if five is not None:
+            raise Misfit(five)
+        pairs = [answer.pairs for answer in self.state.values() if answer is not None]
+        sides = {side_with(self, one, other): True for one, other in pairs}
+        return Tree(self.hosts, [cut_behind(self.hosts, side) for side in sides])
+
+    def only(self, hosts):
+        """The table of some of the hosts."""
+        names = hosts_of(hosts)
+        for name in names:
+            check_host(self.hosts, name)
+        table = Table(names)
+        table.state = {four: self.state[four] for four in fours_of(names)}
+        return table
+
+    def twin(self):
+        """A table of its own with the same answers."""
+        return self.only(self.hosts)
+
+    def __eq__(self, other):
+        if not isinstance(other, Table):
+            return False
+        return self.hosts == other.hosts and self.state == other.state
+
+    def __le__(self, other):
+        check_alike(self, other)
+        return all([answer is None or answer in other for answer in self.state.values()])
+
+    def __ge__(self, other):
+        check_alike(self, other)
+        return all([answer is None or answer in self for answer in other.state.values()])
+
+    def trial(self):
+        """What a `with` statement takes, behind whose block the table is as it was."""
+        return Trial(self)
+
+    def tried(self, work):
+        """What work returns of the table, which then is as it was."""
+        with self.trial() as same:
+            return work(same)
+
+
+def check_alike(table, other):
+    """Raises Unlike() unless any value is a table with the hosts of this one."""
+    if not isinstance(other, Table) or table.hosts != other.hosts:
+        raise Unlike()
+
+
+def first_misfit(table):
+    """The first five hosts whose answers are not those of a tree of these five; None if there are none."""
+    for five in fives_of(table.hosts):
+        answers = [table.state[four] for four in fours_of(five)]
+        if not fit_five([answer for answer in answers if answer is not None]):
+            return five
+    return None
+
+
+def fit_five(partings):
+    """Whether the partings among the answers of five hosts are those of a tree of the five."""
+    # A cut of five hosts has a pair on one side, and makes just the three partings with this pair. The
+    # partings of a tree are those of its cuts. Two cuts that cross cannot both have all of theirs: they make
+    # unlike partings of four hosts.
+    counts = {}
+    for parting in partings:
+        for pair in parting.pairs:
+            counts[pair] = counts.get(pair, 0) + 1
+    return all([counts[parting.pairs[0]] == 3 or counts[parting.pairs[1]] == 3 for parting in partings])
+
+
+def side_with(table, one, other):
+    """The side with the pair `one` of a cut of the table's tree that makes `one / other`."""
+    # Of the cuts that make it this is the last one on the way to the pair `other`: the hosts on its other side
+    # leave the way where `other` parts. Each cut is found, as some parting is made by no other one: both of
+    # its ends have at least two ways on, and the parting takes a host behind each.
+    return tuple([host for host in table.hosts if host in one or is_beside(table, host, one[0], other)])
+
+
+def is_beside(table, host, mate, other):
+    """Whether a host has a mate in the answer that has the pair `other`, too."""
+    answer = table.state.get(ascending([host, mate, *other]))
+    return answer is not None and other in answer.pairs
