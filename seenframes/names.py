@@ -38,6 +38,13 @@ def hosts_of(values, most=40):
     return ascending(values)
 
 
+def rows_in(hosts, many):
+    """The list of all ascending tuples of so many of the hosts, ascending."""
+    if many == 0:
+        return [()]
+    return [(host, *row) for at, host in enumerate(hosts) for row in rows_in(hosts[at + 1:], many - 1)]
+
+
 def fours_of(hosts):
     """All ascending tuples of four of the hosts, ascending."""
     many = len(hosts)

@@ -2,7 +2,7 @@
 
 from seenframes.checks import check_host, four_asked, four_in
 from seenframes.errors import BadAnswer, Misfit, Unlike
-from seenframes.names import ascending, fives_of, fours_of, hosts_of
+from seenframes.names import ascending, hosts_of, rows_in
 from seenframes.partings import Parting, answer_marked
 from seenframes.trees import Tree, cut_behind
 from seenframes.trials import Trial
@@ -15,13 +15,13 @@ class Table:
 
     def __init__(self, hosts):
         self.hosts = hosts_of(hosts, self.MOST)
-        self.state = {four: None for four in fours_of(self.hosts)}
+        self.state = {four: None for four in rows_in(self.hosts, 4)}
 
     @classmethod
     def of_tree(cls, tree):
         """The table of a tree."""
         table = cls(tree.hosts)
-        for four in fours_of(tree.hosts):
+        for four in rows_in(tree.hosts, 4):
             table[four] = answer_marked(tree.marks, four)
         return table
 
@@ -73,7 +73,7 @@ class Table:
         for name in names:
             check_host(self.hosts, name)
         table = Table(names)
-        table.state = {four: self.state[four] for four in fours_of(names)}
+        table.state = {four: self.state[four] for four in rows_in(names, 4)}
         return table
 
     def twin(self):
@@ -111,8 +111,9 @@ def check_alike(table, other):
 
 def first_misfit(table):
     """The first five hosts whose answers are not those of a tree of these five; None if there are none."""
-    for five in fives_of(table.hosts):
-        answers = [table.state[four] for four in fours_of(five)]
+    # The property is_tree asks this: what yields is not run here, but the rows are told as a list.
+    for five in rows_in(table.hosts, 5):
+        answers = [table.state[five[:at] + five[at + 1:]] for at in range(5)]
         if not fit_five([answer for answer in answers if answer is not None]):
             return five
     return None

@@ -475,14 +475,15 @@ class Classes(unittest.TestCase):
 class WhatOperatorsChange(unittest.TestCase):
     """Operators, properties, texts and lengths, and all that they call, change only what they made."""
 
-    def reached(self):
+    CHANGING = ("__init__", "__setitem__", "__enter__", "__exit__", "__call__", "__iadd__")
+
+    def reached(self, free=CHANGING):
         """The functions that operators and properties call, by their names, through others too."""
         by_name = {}
         for _, holder, function in functions():
             by_name.setdefault(function.name, []).append(function)
             if holder and function.name == "__init__":
                 by_name.setdefault(holder.name, []).append(function)
-        free = ("__init__", "__setitem__", "__enter__", "__exit__", "__call__")
         waiting = [function for _, holder, function in functions() if holder and (
             "property" in decorators(function) or function.name.startswith("__") and function.name not in free)]
         found = []
@@ -521,3 +522,19 @@ class WhatOperatorsChange(unittest.TestCase):
                 if changed is not None:
                     self.assertIn(ast.unparse(changed), made, function.name)
                     self.assertFalse(is_generator(function), function.name)
+
+    def test_nothing_that_yields_is_run(self):
+        reached = self.reached(free=())
+        self.assertIn("first_misfit", [function.name for function in reached])
+        for function in reached:
+            self.assertFalse(is_generator(function), function.name)
+            words = [called(node) or getattr(node.func, "attr", None) for _, node in nodes(ast.Call, function)]
+            self.assertFalse(GENERATORS & set(words), function.name)
+
+    def test_nothing_that_is_held_is_called(self):
+        own = {function.name for _, holder, function in functions() if holder is None} | BUILTINS
+        own |= {node.name for _, node in nodes(ast.ClassDef)}
+        for function in self.reached():
+            for _, node in nodes(ast.Call, function):
+                if not isinstance(node.func, ast.Attribute):
+                    self.assertTrue(called(node) in own or called(node) == "cls", ast.unparse(node))

@@ -225,6 +225,37 @@ class OfTrees(Case):
             self.same(self.soon(lambda: table.is_tree), False)
             self.same(first_misfit(table), ("a", *four))
 
+    def test_one_to_twelve_hosts(self):
+        for many in range(1, 13):
+            tree = Tree(*caterpillar_cuts(many)) if many > 3 else Tree.star(*letters(many))
+            table = Table.of_tree(tree)
+            self.same([table.is_tree, first_misfit(table), table.rebuilt()], [True, None, tree])
+            for four in list(combinations(letters(many), 4))[::17]:
+                kept = table[four]
+                for answer in answers_of(four):
+                    table[four] = answer
+                    five = tuple(sorted({*four, [host for host in letters(5) if host not in four][0]}))
+                    misfit = None if answer == kept or many == 4 else five
+                    self.same([table.is_tree, first_misfit(table)], [misfit is None, misfit])
+                table[four] = kept
+            self.same([table.is_tree, table.rebuilt()], [True, tree])
+
+    def test_up_to_date_inside_a_trial_and_behind_it(self):
+        table = Table.of_tree(Tree(*caterpillar_cuts(7)))
+        four = ("b", "c", "e", "g")
+        table.is_tree
+        with table.trial():
+            table[four] = None
+            self.same([table.is_tree, first_misfit(table)], [False, ("a", *four)])
+            with table.trial():
+                table[four] = Parting(["b", "c"], ["e", "g"])
+                self.same([table.is_tree, first_misfit(table)], [True, None])
+            self.same([table.is_tree, first_misfit(table)], [False, ("a", *four)])
+            self.raises(Misfit(("a", *four)), table.rebuilt)
+        self.same([table.is_tree, first_misfit(table)], [True, None])
+        self.raises(NoHost("x"), table.tried, lambda same: same("x", "x", "x", "x"))
+        self.same(table.is_tree, True)
+
     def test_the_first_five(self):
         table = Table(letters(8))
         four = ("c", "d", "f", "g")

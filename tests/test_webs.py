@@ -1,4 +1,5 @@
 import random
+import time
 
 from seenframes.cuts import Cut
 from seenframes.errors import BadWeb, NoHost, NoSwitch, TooMany
@@ -252,3 +253,98 @@ class Needless(Case):
         self.same([web.links, web.places], [(), {"a": 1}])
         web = Web([(1, 0)], {"a": 0, "b": 1}).lean()
         self.same([web.links, web.places], [(), {"a": 1, "b": 1}])
+
+
+def taken_out(links, places, switch, kind):
+    """The links and places without a needless switch, by the definition alone."""
+    ends = [other for link in links for one, other in (link, link[::-1]) if one == switch]
+    left = [link for link in links if switch not in link]
+    if kind == "middle":
+        left.append(tuple(ends))
+    return left, {host: ends[0] if at == switch else at for host, at in places.items()}
+
+
+def shaped_webs():
+    """Links and places: chains, stars, combs and drawn webs, with needless switches of each kind."""
+    chain = [(k, k + 1) for k in range(30)]
+    mixed = [(k * 7 % 30, (k + 1) * 7 % 30) for k in range(29)]
+    star = [(5, k) for k in range(30) if k != 5]
+    comb = [(k, k + 1) for k in range(0, 14)] + [(k, k + 15) for k in range(15)]
+    for links in (chain, mixed, star, comb):
+        ends = sorted({*sum(links, ())})
+        yield links, {"a": ends[0]}
+        yield links, {"a": ends[-1], "b": ends[0]}
+        yield links, {"a": ends[3], "b": ends[4], "c": ends[4], "d": ends[9]}
+        yield links, {host: ends[at] for at, host in enumerate(letters(len(ends)))}
+        yield links, {host: ends[at // 2] for at, host in enumerate(letters(40)) if at // 2 < len(ends)}
+    for seed in range(120):
+        yield drawn_web(seed)
+
+
+class OneByOne(Case):
+    """Taking needless switches out, beside webs that are made anew."""
+
+    def same_webs(self, web, made):
+        """The two webs are equal, and all that is told of the one is told of the other."""
+        self.same([web == made, made == web], [True, True])
+        for one in (web, made):
+            self.same([type(one), list(one.places)], [Web, list(one.hosts)])
+        self.same([web.hosts, web.switches, web.links, web.places], [made.hosts, made.switches, made.links, made.places])
+        self.same([web.home(host) for host in web.hosts], [made.home(host) for host in made.hosts])
+        self.same(list(web.needless()), list(made.needless()))
+        self.raises(NoHost("zzz"), web.home, "zzz")
+
+    def test_each_step(self):
+        kinds = {}
+        for links, places in shaped_webs():
+            web = Web(links, places)
+            whole = web
+            found = kinds_of(links, places)
+            steps = 0
+            while found:
+                switch, kind = found[0]
+                links, places = taken_out(links, places, switch, kind)
+                web = web.without(switch)
+                self.raises(NoSwitch(switch), web.without, switch)
+                kinds[kind] = kinds.get(kind, 0) + 1
+                steps += 1
+                if steps % 9 == 1 or len(web.switches) < 9:
+                    made = Web(links, places)
+                    self.same_webs(web, made)
+                    self.same([web.cut_of(*link) for link in web.links], [made.cut_of(*link) for link in made.links])
+                found = kinds_of(links, places)
+            self.same_webs(whole.lean(), Web(links, places))
+            self.same([whole.lean().tree, web.lean() == web], [whole.tree, True])
+        self.assertTrue(all(kinds[kind] > 100 for kind in ("end", "middle", "lone")), kinds)
+
+    def test_any_needless_switch(self):
+        for seed in range(60):
+            links, places = drawn_web(seed)
+            web = Web(links, places)
+            for switch, kind in kinds_of(links, places):
+                self.same_webs(web.without(switch), Web(*taken_out(links, places, switch, kind)))
+            self.same_webs(web, Web(links, places))
+
+    def test_webs_behind_go_on(self):
+        web = Web([(0, 1), (1, 2), (2, 3), (3, 4)], {"a": 0, "b": 0, "c": 4, "d": 4, "e": 2}).without(1)
+        self.same([web.links, web.cut_of(0, 2), str(web.tree)],
+                  [((0, 2), (2, 3), (3, 4)), Cut(["a", "b"], ["c", "d", "e"]), "a b ((c d) e)"])
+        self.raises(NoSwitch((0, 1)), web.cut_of, 0, 1)
+        self.same(web.without(3).links, ((0, 2), (2, 4)))
+        web.places["a"] = 4
+        self.same(web.home("a"), 0)
+
+    def test_it_takes_little_time(self):
+        web = Web([(k, k + 1) for k in range(99)], {"a": 0, "b": 99})
+        start = time.perf_counter()
+        for _ in range(100):
+            found = web.lean()
+        self.assertLess(time.perf_counter() - start, 0.8)
+        self.same([found.switches, found.links, found.places], [(99,), (), {"a": 99, "b": 99}])
+        start = time.perf_counter()
+        for _ in range(10):
+            step = web
+            for switch in range(99):
+                step = step.without(list(step.needless())[0][0])
+        self.assertLess(time.perf_counter() - start, 1.5)
+        self.same(step, found)
