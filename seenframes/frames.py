@@ -1,6 +1,6 @@
 """Frames, and rows of frames."""
 
-from seenframes.checks import is_index, is_whole
+from seenframes.checks import check_host, is_index, is_whole
 from seenframes.errors import BadFrame, BadHistory, BadIndex, BadText, TooMany
 from seenframes.names import ascending, is_name
 
@@ -66,6 +66,15 @@ def frame_key(frame):
     return (frame.sender, "" if frame.target is None else frame.target)
 
 
+def check_frame(hosts, value):
+    """Raises what is wrong with any value as a frame of one of the hosts, to another one or to all."""
+    if not isinstance(value, Frame):
+        raise BadFrame("frame")
+    check_host(hosts, value.sender)
+    if value.target is not None:
+        check_host(hosts, value.target)
+
+
 def words_in(text):
     """The words of a text of one line."""
     if not isinstance(text, str):
@@ -128,8 +137,13 @@ class History:
         if len(frames) > self.MOST:
             raise TooMany("frames", self.MOST)
         targets = [frame.target for frame in frames if frame.target is not None]
-        self.frames = frames
+        self._frames = frames
         self.hosts = ascending([frame.sender for frame in frames] + targets)
+
+    @property
+    def frames(self):
+        """The tuple of the frames."""
+        return self._frames
 
     @classmethod
     def of(cls, frames):
@@ -145,65 +159,65 @@ class History:
         return History(*frames)
 
     def __len__(self):
-        return len(self.frames)
+        return len(self._frames)
 
     def __getitem__(self, at):
-        if not is_index(at, len(self.frames)):
+        if not is_index(at, len(self._frames)):
             raise BadIndex(at)
-        return self.frames[at]
+        return self._frames[at]
 
     def __iter__(self):
-        return iter(self.frames)
+        return iter(self._frames)
 
     def __contains__(self, x):
-        return isinstance(x, Frame) and x in self.frames
+        return isinstance(x, Frame) and x in self._frames
 
     def __eq__(self, other):
         if not isinstance(other, History):
             return False
-        return self.frames == other.frames
+        return self._frames == other.frames
 
     def __add__(self, other):
         if not isinstance(other, (Frame, History)):
             return NotImplemented
         behind = (other,) if isinstance(other, Frame) else other.frames
-        frames = self.frames + behind
+        frames = self._frames + behind
         return History(*frames)
 
     def __mul__(self, other):
         if not is_whole(other) or other < 0:
             return NotImplemented
-        if len(self.frames) * other > self.MOST:
+        if len(self._frames) * other > self.MOST:
             raise TooMany("frames", self.MOST)
         # Python repeats not even an empty tuple as often as an integer can tell.
-        times = other if self.frames else 0
-        frames = self.frames * times
+        times = other if self._frames else 0
+        frames = self._frames * times
         return History(*frames)
 
     def without(self, k):
         """The history without the frame k."""
-        if not is_index(k, len(self.frames)):
+        if not is_index(k, len(self._frames)):
             raise BadIndex(k)
-        frames = self.frames[:k] + self.frames[k + 1:]
+        frames = self._frames[:k] + self._frames[k + 1:]
         return History(*frames)
 
     def swapped(self, k):
         """The history with the frames k and k + 1 exchanged."""
-        if not is_index(k, len(self.frames) - 1):
+        if not is_index(k, len(self._frames) - 1):
             raise BadIndex(k)
-        frames = list(self.frames)
-        frames[k] = self.frames[k + 1]
-        frames[k + 1] = self.frames[k]
+        frames = list(self._frames)
+        frames[k] = self._frames[k + 1]
+        frames[k + 1] = self._frames[k]
         return History(*frames)
 
     def upto(self, k):
         """The first k frames."""
-        if not is_index(k, len(self.frames) + 1):
+        if not is_index(k, len(self._frames) + 1):
             raise BadIndex(k)
-        frames = self.frames[:k]
+        frames = self._frames[:k]
         return History(*frames)
 
     def __str__(self):
-        if not self.frames:
+        if not self._frames:
             return "-"
-        return ", ".join([str(frame) for frame in self.frames])
+        return ", ".join([str(frame) for frame in self._frames])

@@ -112,3 +112,69 @@ def caterpillar_cuts(many):
     """So many hosts, and as many cuts as they can have, each in the next one."""
     hosts = letters(many)
     return hosts, [Cut(hosts[:k], hosts[k:]) for k in range(2, many - 1)]
+
+
+def drawn_frames(seed, hosts, many):
+    """So many frames among some hosts, drawn by lot, some of them to all."""
+    dice = random.Random(seed)
+    frames = []
+    for _ in range(many):
+        sender = dice.choice(hosts)
+        others = [host for host in hosts if host != sender]
+        frames.append(Frame(sender, dice.choice(others) if others and dice.random() < 0.85 else None))
+    return frames
+
+
+class PlainNetwork:
+    """A live network, told port by port as the document defines it."""
+
+    def __init__(self, links, places):
+        self.places = places
+        switches = {switch for link in links for switch in link} | set(places.values())
+        self.ports = {switch: [] for switch in switches}
+        for one, other in links:
+            self.ports[one].append(("link", other))
+            self.ports[other].append(("link", one))
+        for host, switch in places.items():
+            self.ports[switch].append(("host", host))
+        self.known = {switch: {} for switch in switches}
+
+    def send(self, frame):
+        """The sight of a frame, which is sent."""
+        waiting = [(self.places[frame.sender], ("host", frame.sender))]
+        seen = []
+        while waiting:
+            switch, came = waiting.pop(0)
+            self.known[switch][frame.sender] = came
+            out = [port for port in self.ports[switch] if port != came]
+            if frame.target is not None and frame.target in self.known[switch]:
+                out = [self.known[switch][frame.target]]
+            for kind, what in out:
+                if kind == "host":
+                    seen.append(what)
+                else:
+                    waiting.append((what, ("link", switch)))
+        return tuple(sorted(seen))
+
+
+class PlainPlay:
+    """Who sees what by the partings that hold, as the document states it. answers is a function of four hosts."""
+
+    def __init__(self, hosts, answers):
+        self.hosts = hosts
+        self.answers = answers
+        self.seers = {host: set() for host in hosts}
+
+    def holds(self, a, h, c, s):
+        """Whether the parting a h / c s holds, where s is neither a nor h."""
+        return s not in (a, h) and self.answers(a, h, c, s) == Parting([a, h], [c, s])
+
+    def send(self, frame):
+        """The sight of a frame, which is sent."""
+        a, c = frame.sender, frame.target
+        seen = []
+        for h in self.hosts:
+            if h != a and (c is None or h == c or all([self.holds(a, h, c, s) for s in self.seers[c]])):
+                seen.append(h)
+        self.seers[a].update(seen)
+        return tuple(seen)

@@ -11,6 +11,8 @@ FUNCTIONS = {
     "trees": ["all_trees(hosts)", "count_trees(n, cuts=None)"],
     "partings": ["answers_of(four)", "partings_of(tree)"],
     "tables": ["first_misfit(table)"],
+    "alikes": ["alike(one, other)", "first_unlike(one, other, history)", "show_unlike(one, other)",
+               "shows_unlike(one, other, value)"],
 }
 # A plain name is an attribute or a property, the rest are the constructor and the methods.
 CLASSES = {
@@ -42,13 +44,22 @@ CLASSES = {
         "__call__(self, a, b, c, d)", "__len__(self)", "__contains__(self, x)", "each(self)", "rebuilt(self)",
         "only(self, hosts)", "twin(self)", "__eq__(self, other)", "__le__(self, other)", "__ge__(self, other)",
         "trial(self)", "tried(self, work)"],
+    ("players", "Player"): [
+        "__len__(self)", "send(self, frame)", "__iadd__(self, other)", "would(self, frame)", "play(self, history)",
+        "seers(self, host)", "outlook(self)", "loose(self, host)", "back(self)", "reset(self)", "twin(self)",
+        "__eq__(self, other)", "trial(self)", "tried(self, work)"],
+    ("networks", "Network"): ["__init__(self, ground)", "knowers(self, host)", "port(self, switch, host)"],
+    ("plays", "Play"): ["__init__(self, ground)"],
+    ("alikes", "Shown"): ["__init__(self, history, host)", "__eq__(self, other)"],
 }
+BASES = {"Network": "Player", "Play": "Player"}
 CLASS_METHODS = {"read", "of", "star", "of_tree"}
 SHOWN = {
     "Frame": ["sender", "target", "is_to_all"], "History": ["frames", "hosts", "MOST"],
     "Cut": ["near", "far", "hosts"], "Tree": ["hosts", "cuts", "links", "MOST"],
     "Web": ["hosts", "switches", "links", "places", "tree"], "Parting": ["four", "pairs"],
-    "Table": ["hosts", "is_tree", "MOST"],
+    "Table": ["hosts", "is_tree", "MOST"], "Network": ["hosts", "frames", "sights", "web"],
+    "Play": ["hosts", "frames", "sights"], "Shown": ["history", "host"],
 }
 
 
@@ -65,6 +76,8 @@ def made(name):
         "Web": lambda: module("webs").Web.of_tree(tree),
         "Parting": lambda: module("partings").Parting(["a", "b"], ["c", "d"]),
         "Table": lambda: module("tables").Table.of_tree(tree),
+        "Network": lambda: module("networks").Network(tree), "Play": lambda: module("plays").Play(tree),
+        "Shown": lambda: module("alikes").Shown(module("frames").History(), "a"),
     }[name]()
 
 
@@ -81,7 +94,8 @@ class Interface(unittest.TestCase):
     def test_classes(self):
         for (file, name), told in CLASSES.items():
             found = vars(module(file))[name]
-            self.assertEqual((found.__module__, found.__bases__), ("seenframes." + file, (object,)))
+            self.assertEqual(found.__module__, "seenframes." + file)
+            self.assertEqual([base.__name__ for base in found.__bases__], [BASES.get(name, "object")])
             for text in told:
                 method = text.partition("(")[0]
                 kept = vars(found)[method]

@@ -194,11 +194,21 @@ class Names(unittest.TestCase):
         for name, tree in TREES.items():
             found = self.locals_of(tree) | {node.attr for _, node in nodes(ast.Attribute, tree)}
             found |= {node.name for _, node in nodes((ast.FunctionDef, ast.ClassDef), tree)}
-            for word in found - set(PARAMETERS) - {"__init__", "__call__"}:
+            for word in found - set(PARAMETERS) - {"__init__", "__call__", "__class__", "__name__"}:
                 self.assertRegex(word, r"^(_?[A-Za-z][A-Za-z0-9_]*|_)$", name)
                 self.assertNotRegex(word, r"^_(pe_|dcw_|enum_|cm_|twin_re_|lay_|law_|stub_|sre|cold|tuplegetter"
                                           r"|outside|record|written_out|member_names)", name)
                 self.assertNotIn(word, NEVER, name)
+
+    def test_names_of_classes_as_texts(self):
+        for name, tree in TREES.items():
+            above = parents(tree)
+            for _, node in nodes(ast.Attribute, tree):
+                if node.attr == "__class__":
+                    self.assertIsInstance(node.value, ast.Name, name)
+                    self.assertEqual(getattr(above[node], "attr", None), "__name__", name)
+                if node.attr == "__name__":
+                    self.assertEqual(getattr(node.value, "attr", None), "__class__", name)
 
     def test_names_of_builtins(self):
         for name, tree in TREES.items():
@@ -215,7 +225,7 @@ class Names(unittest.TestCase):
 
     def test_only_builtins_that_are_allowed(self):
         for name, node in nodes(ast.Name):
-            if hasattr(builtins, node.id) and node.id not in {*BUILTINS, "property", "classmethod", "staticmethod"}:
+            if hasattr(builtins, node.id) and node.id not in {*BUILTINS, "property", "classmethod", "super"}:
                 self.assertIn(node.id, FREE_LOCALS & self.locals_of(TREES[name]), name)
 
     def test_methods_of_builtin_values(self):
@@ -238,14 +248,14 @@ class Names(unittest.TestCase):
         self.assertFalse(stored & BARRED_ATTRIBUTES)
         shown = {part.name for _, _, part in functions() if "property" in decorators(part)}
         self.assertFalse(stored & shown)
-        plain = {part.name for _, holder, part in functions() if holder and "property" not in decorators(part)}
+        plain = {part.name for _, holder, part in functions() if holder and not PROPERTY & set(decorators(part))}
         self.assertFalse(shown & (plain | METHODS))
         self.assertFalse(stored & plain)
         parts = [part for _, node in nodes(ast.ClassDef) for part in node.body if isinstance(part, ast.Assign)]
         values = {part.targets[0].id for part in parts}
         self.assertFalse(values & (stored | shown | plain))
         read = {node.attr for _, node in nodes(ast.Attribute) if isinstance(node.ctx, ast.Load)}
-        self.assertLessEqual(read, stored | shown | values | plain | METHODS)
+        self.assertLessEqual(read - {"setter", "__class__", "__name__"}, stored | shown | values | plain | METHODS)
 
     def test_names_of_generators(self):
         names = [function.name for _, _, function in functions()]
@@ -332,10 +342,13 @@ class Statements(unittest.TestCase):
 class Values(unittest.TestCase):
 
     def test_allowed_values(self):
-        barred = (ast.GeneratorExp, ast.SetComp, ast.Set, ast.NamedExpr, ast.Await, ast.Div, ast.Pow, ast.MatMult)
+        barred = (ast.GeneratorExp, ast.SetComp, ast.Set, ast.NamedExpr, ast.Await, ast.Div, ast.MatMult)
         self.assertEqual([(name, ast.unparse(node)) for name, node in nodes(barred) if isinstance(node, ast.expr)], [])
         for name, node in nodes(ast.BinOp):
-            self.assertNotIsInstance(node.op, barred, name)
+            if isinstance(node.op, ast.Pow):
+                self.assertTrue(isinstance(node.right, ast.Constant) and 0 <= node.right.value <= 64, name)
+            else:
+                self.assertNotIsInstance(node.op, barred, name)
         for name, node in nodes(ast.Constant):
             self.assertIn(type(node.value).__name__, ("int", "str", "bool", "NoneType"), name)
 
@@ -407,6 +420,38 @@ class Classes(unittest.TestCase):
             self.assertEqual(len(names), len(set(names)), node.name)
             if "__getitem__" in names:
                 self.assertIn("__iter__", names, node.name)
+
+    def test_properties_that_are_set(self):
+        setters = {part.name for _, _, part in functions() if "setter" in decorators(part)}
+        self.assertEqual(setters, {"watchers"})
+        stored = {node.attr for _, node in nodes(ast.Attribute) if isinstance(node.ctx, ast.Store)}
+        self.assertFalse(setters & stored)
+
+    def test_super(self):
+        for name, node in nodes(ast.Name):
+            if node.id == "super":
+                rows = [row for _, _, function in functions() if function.name == "__init__" for row in function.body
+                        if isinstance(row, ast.Expr) and node in ast.walk(row)]
+                self.assertEqual(len(rows), 1, name)
+                self.assertRegex(ast.unparse(rows[0]), r"^super\(\)\.__init__\(", name)
+
+    def test_families(self):
+        holders = {node.name: node for _, node in nodes(ast.ClassDef)}
+        for name, node in nodes(ast.ClassDef):
+            if name == "errors.py":
+                continue
+            self.assertLessEqual(len(node.bases), 1, node.name)
+            for base in node.bases:
+                family = [node, holders[base.id]]
+                names = [part.name for one in family for part in one.body if isinstance(part, ast.FunctionDef)]
+                self.assertFalse({"__lt__", "__le__", "__gt__", "__ge__", "__radd__"} & set(names), node.name)
+
+    def test_methods_are_not_read_off_a_class(self):
+        holders = {node.name for _, node in nodes(ast.ClassDef)}
+        plain = {part.name for _, holder, part in functions() if holder and not decorators(part)}
+        for name, node in nodes(ast.Attribute):
+            if isinstance(node.value, ast.Name) and node.value.id in holders:
+                self.assertNotIn(node.attr, plain, name)
 
     def test_decorators(self):
         for name, holder, function in functions():

@@ -289,7 +289,8 @@ class OneByOne(Case):
         self.same([web == made, made == web], [True, True])
         for one in (web, made):
             self.same([type(one), list(one.places)], [Web, list(one.hosts)])
-        self.same([web.hosts, web.switches, web.links, web.places], [made.hosts, made.switches, made.links, made.places])
+        self.same([web.hosts, web.switches, web.links, web.places],
+                  [made.hosts, made.switches, made.links, made.places])
         self.same([web.home(host) for host in web.hosts], [made.home(host) for host in made.hosts])
         self.same(list(web.needless()), list(made.needless()))
         self.raises(NoHost("zzz"), web.home, "zzz")
