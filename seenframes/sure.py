@@ -124,5 +124,6 @@ def shows_open(record, value):
 
 
 def are_faults(value, faults):
-    """Whether any value is just this tuple of faults, of just the same kinds."""
-    return isinstance(value, tuple) and value == faults and all([is_whole(fault[0]) for fault in value])
+    """Whether any value is just this tuple of faults."""
+    # Tuples equal tuples alone, and names equal names: but True equals 1.
+    return value == faults and all([is_whole(fault[0]) for fault in value])

@@ -13,6 +13,7 @@ FUNCTIONS = {
     "tables": ["first_misfit(table)"],
     "alikes": ["alike(one, other)", "first_unlike(one, other, history)", "show_unlike(one, other)",
                "shows_unlike(one, other, value)"],
+    "sure": ["judge(record, four)", "barren(record)", "shows_finding(record, value)", "shows_barren(record, value)"],
 }
 # A plain name is an attribute or a property, the rest are the constructor and the methods.
 CLASSES = {
@@ -51,15 +52,29 @@ CLASSES = {
     ("networks", "Network"): ["__init__(self, ground)", "knowers(self, host)", "port(self, switch, host)"],
     ("plays", "Play"): ["__init__(self, ground)"],
     ("alikes", "Shown"): ["__init__(self, history, host)", "__eq__(self, other)"],
+    ("rounds", "Rounds"): [
+        "__init__(self, ground, history)", "outlook(self)", "shown_in(self, k)", "count(self, host, k)",
+        "least(self, host, count)"],
+    ("notes", "Notes"): [
+        "__len__(self)", "__getitem__(self, at)", "note(self, frame, *seen)", "__iadd__(self, other)", "back(self)",
+        "twin(self)", "trial(self)", "tried(self, work)", "__eq__(self, other)"],
+    ("records", "Record"): [
+        "__init__(self, hosts, watchers=None)", "set_watchers(self, watchers)", "fault(self, tree)", "fits(self, tree)",
+        "fitting(self)", "seen_of(cls, tree, history, watchers=None)"],
+    ("sure", "Finding"): ["__bool__(self)"],
+    ("sure", "Sure"): ["__init__(self, four, answer, faults)", "__eq__(self, other)", "__bool__(self)"],
+    ("sure", "Open"): ["__init__(self, four, trees)", "__eq__(self, other)", "__bool__(self)"],
 }
-BASES = {"Network": "Player", "Play": "Player"}
-CLASS_METHODS = {"read", "of", "star", "of_tree"}
+BASES = {"Network": "Player", "Play": "Player", "Record": "Notes", "Sure": "Finding", "Open": "Finding"}
+CLASS_METHODS = {"read", "of", "star", "of_tree", "seen_of"}
 SHOWN = {
     "Frame": ["sender", "target", "is_to_all"], "History": ["frames", "hosts", "MOST"],
     "Cut": ["near", "far", "hosts"], "Tree": ["hosts", "cuts", "links", "MOST"],
     "Web": ["hosts", "switches", "links", "places", "tree"], "Parting": ["four", "pairs"],
     "Table": ["hosts", "is_tree", "MOST"], "Network": ["hosts", "frames", "sights", "web"],
     "Play": ["hosts", "frames", "sights"], "Shown": ["history", "host"],
+    "Rounds": ["opening", "later"], "Record": ["hosts", "watchers", "history", "MOST", "LONGEST"],
+    "Sure": ["four", "answer", "faults"], "Open": ["four", "trees"],
 }
 
 
@@ -78,6 +93,9 @@ def made(name):
         "Table": lambda: module("tables").Table.of_tree(tree),
         "Network": lambda: module("networks").Network(tree), "Play": lambda: module("plays").Play(tree),
         "Shown": lambda: module("alikes").Shown(module("frames").History(), "a"),
+        "Rounds": lambda: module("rounds").Rounds(tree, module("frames").History()),
+        "Record": lambda: module("records").Record(["a"]), "Sure": lambda: module("sure").Sure((), None, ()),
+        "Open": lambda: module("sure").Open((), ()),
     }[name]()
 
 
@@ -112,5 +130,11 @@ class Interface(unittest.TestCase):
 
     def test_class_values(self):
         found = [vars(vars(module(file))[name])["MOST"] for file, name in [
-            ("frames", "History"), ("trees", "Tree"), ("tables", "Table")]]
-        self.assertEqual(found, [60, 40, 12])
+            ("frames", "History"), ("trees", "Tree"), ("tables", "Table"), ("records", "Record")]]
+        self.assertEqual(found, [60, 40, 12, 6])
+        self.assertEqual(vars(module("records").Record)["LONGEST"], 20)
+
+    def test_watchers_can_be_set(self):
+        record = module("records").Record
+        self.assertIsNotNone(vars(record)["watchers"].fset)
+        self.assertIsNone(vars(module("notes").Notes)["watchers"].fset)
