@@ -5,9 +5,18 @@ import time
 import unittest
 
 from seenframes import errors
+from seenframes.alikes import Shown
 from seenframes.cuts import Cut
 from seenframes.frames import Frame, History
+from seenframes.networks import Network
 from seenframes.partings import Parting
+from seenframes.plays import Play
+from seenframes.records import Record
+from seenframes.rounds import Rounds
+from seenframes.sure import Open, Sure
+from seenframes.tables import Table
+from seenframes.trees import Tree
+from seenframes.webs import Web
 
 
 def any_values():
@@ -15,6 +24,7 @@ def any_values():
     deep = "a"
     for _ in range(8):
         deep = [deep]
+    tree = Tree(["zw", "zx", "zy", "zz"], [Cut(["zw", "zx"], ["zy", "zz"])])
     return [
         None, True, False, 0, 1, 2, -1, 99, 100, 10 ** 59, -(10 ** 59),
         "", " ", "A", "a1", "a b", "abcdefghi", "a\n", "-", "*", "~" * 5000, "a" * 5000, "zz",
@@ -23,7 +33,14 @@ def any_values():
         Frame("zz"), Frame("zy", "zz"), History(), History(Frame("zz")),
         Cut(["zw", "zx"], ["zy", "zz"]), Parting(["zw", "zx"], ["zy", "zz"]),
         errors.BadHosts(None), errors.Unlike(),
+        tree, Web.of_tree(tree), Table.of_tree(tree), Network(tree), Play(tree), Record(tree.hosts),
+        Rounds(tree, History()), Shown(History(), "zz"), Sure(tree.hosts, None, ()), Open(tree.hosts, (tree, tree)),
     ]
+
+
+def no_grounds(*kinds):
+    """Those of any values that are of none of these kinds."""
+    return [value for value in any_values() if not isinstance(value, kinds)]
 
 
 def no_integers():

@@ -8,7 +8,7 @@ from seenframes.plays import Play
 from seenframes.tables import Table
 from seenframes.trees import Tree, all_trees
 from seenframes.webs import Web
-from tests.support import Case, any_values, caterpillar_cuts, drawn_cuts, drawn_frames, letters
+from tests.support import Case, any_values, caterpillar_cuts, drawn_cuts, drawn_frames, letters, no_grounds
 from tests.test_webs import WEB, drawn_web
 
 TREE = Tree.read("a b (c d)")
@@ -38,7 +38,7 @@ class Alike(Case):
             self.same([show_unlike(web, web.lean()), first_unlike(web, web.tree, History())], [None, None])
 
     def test_wrong_grounds(self):
-        values = [*any_values(), Table.of_tree(TREE), "a b (c d)", Play(TREE), Network(TREE), [TREE]]
+        values = [*no_grounds(Web, Tree), Table.of_tree(TREE), "a b (c d)", Play(TREE), Network(TREE), [TREE]]
         for value in values:
             for call, more in [(alike, ()), (show_unlike, ()), (first_unlike, (History.read("x y"),))]:
                 self.raises(BadGround(value), call, value, TREE, *more)

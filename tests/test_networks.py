@@ -5,7 +5,8 @@ from seenframes.plays import Play
 from seenframes.tables import Table
 from seenframes.trees import Tree, all_trees
 from seenframes.webs import Web
-from tests.support import Case, PlainNetwork, any_values, caterpillar_cuts, drawn_cuts, drawn_frames, letters
+from tests.support import (
+    Case, PlainNetwork, any_values, caterpillar_cuts, drawn_cuts, drawn_frames, letters, no_grounds)
 from tests.test_webs import LINKS, PLACES, WEB, drawn_web
 
 TREE = Tree.read("a b (c (d e))")
@@ -21,7 +22,7 @@ class Made(Case):
         self.same(Network(Tree.star("a")).web, Web([], {"a": 0}))
 
     def test_wrong_grounds(self):
-        for value in [*any_values(), "a b (c d)", Table.of_tree(TREE), Play(TREE), Network(TREE), LINKS, PLACES]:
+        for value in [*no_grounds(Web, Tree), "a b (c d)", Table.of_tree(TREE), Play(TREE), Network(TREE), LINKS]:
             self.raises(BadGround(value), Network, value)
 
     def test_it_is_as_when_it_was_made(self):

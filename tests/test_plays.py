@@ -8,7 +8,7 @@ from seenframes.plays import Play
 from seenframes.tables import Table
 from seenframes.trees import Tree, all_trees
 from seenframes.webs import Web
-from tests.support import Case, PlainPlay, any_values, drawn_cuts, drawn_frames, letters
+from tests.support import Case, PlainPlay, drawn_cuts, drawn_frames, letters, no_grounds
 from tests.test_players import no_trees_table
 from tests.test_webs import WEB
 
@@ -18,7 +18,7 @@ TREE = Tree.read("a b (c (d e))")
 class Made(Case):
 
     def test_wrong_grounds(self):
-        for value in [*any_values(), "a b (c d)", WEB, Web.of_tree(TREE), Play(TREE), Network(TREE)]:
+        for value in [*no_grounds(Tree, Table), "a b (c d)", WEB, Web.of_tree(TREE), Play(TREE), Network(TREE)]:
             self.raises(BadGround(value), Play, value)
 
     def test_a_twin_of_the_table(self):

@@ -6,7 +6,7 @@ from seenframes.rounds import Rounds
 from seenframes.tables import Table
 from seenframes.trees import Tree, all_trees
 from seenframes.webs import Web
-from tests.support import Case, any_values, caterpillar_cuts, drawn_cuts, drawn_frames, letters
+from tests.support import Case, any_values, caterpillar_cuts, drawn_cuts, drawn_frames, letters, no_grounds
 from tests.test_players import no_trees_table
 from tests.test_webs import WEB, drawn_web
 
@@ -148,7 +148,7 @@ class Counts(Case):
 class WrongArguments(Case):
 
     def test_grounds(self):
-        for value in [*any_values(), "a b", Play(TREE), Network(TREE), Rounds(TREE, ROW)]:
+        for value in [*no_grounds(Web, Tree, Table), "a b", Play(TREE), Network(TREE), Rounds(TREE, ROW)]:
             self.raises(BadGround(value), Rounds, value, ROW)
             self.raises(BadGround(value), Rounds, value, value)
             self.raises(BadGround(value), Rounds, value, History.read("x y"))
