@@ -2,14 +2,12 @@
 
 from seenframes.errors import BadHosts, TooMany
 
-LETTERS = "abcdefghijklmnopqrstuvwxyz"
-
 
 def is_name(value):
     """Whether any value is a name."""
     if not isinstance(value, str) or not 1 <= len(value) <= 8:
         return False
-    return all([sign in LETTERS for sign in value])
+    return value.isascii() and value.isalpha() and value.islower()
 
 
 def are_names(value):

@@ -4,7 +4,7 @@ from seenframes.checks import check_host, is_whole
 from seenframes.cuts import Cut
 from seenframes.errors import BadWeb, NoSwitch, TooMany
 from seenframes.names import ascending, is_name
-from seenframes.trees import Tree
+from seenframes.trees import Tree, cut_behind
 
 # How a switch is needless, by the numbers of its hosts and of its links.
 KINDS = {(0, 1): "end", (0, 2): "middle", (1, 1): "lone"}
@@ -50,8 +50,8 @@ class Web:
     @property
     def tree(self):
         """The tree with the cuts that the links make."""
-        cuts = [self.cut_of(one, other) for one, other in self.links]
-        return Tree(self.hosts, [cut for cut in cuts if cut is not None])
+        groups = [group for group in groups_behind(self.around, self.hung) if 2 <= len(group) <= len(self.hosts) - 2]
+        return Tree(self.hosts, [cut_behind(self.hosts, group) for group in groups])
 
     def home(self, host):
         """The switch of a host."""
@@ -191,6 +191,25 @@ def take_out(around, hung, switch):
         left = [further for further in around[end] if further != switch]
         around[end] = tuple(sorted(set(left + [other for other in ends if other != end])))
         hung[end] = ascending([*hung[end], *hosts])
+
+
+def groups_behind(around, hung):
+    """The unlike ascending tuples of the hosts behind each switch, as one comes from the first switch."""
+    first = list(around)[0]
+    ups = {first: None}
+    waiting = [first]
+    while waiting:
+        switch = waiting.pop()
+        for end in around[switch]:
+            if end not in ups:
+                ups[end] = switch
+                waiting.append(end)
+    behind = {switch: hung[switch] for switch in ups}
+    # A switch stands behind the one that leads to it: from the last one on, each has all that lies behind it.
+    for switch in reversed(list(ups)):
+        if switch != first:
+            behind[ups[switch]] = (*behind[ups[switch]], *behind[switch])
+    return list({ascending(hosts): True for hosts in behind.values()})
 
 
 def web_with(hosts, around, hung):
