@@ -7,7 +7,7 @@ from seenframes.trees import Tree, all_trees
 from seenframes.webs import Web
 from tests.support import (
     Case, PlainNetwork, any_values, caterpillar_cuts, drawn_cuts, drawn_frames, letters, no_grounds)
-from tests.test_webs import LINKS, PLACES, WEB, drawn_web
+from tests.test_webs import LINKS, PLACES, WEB, drawn_web, shaped_webs
 
 TREE = Tree.read("a b (c (d e))")
 
@@ -58,6 +58,17 @@ class Live(Case):
                 if at in (0, 1, 2, 10):
                     self.same_ports(net, plain)
             self.same_ports(net, plain)
+
+    def test_chains_stars_and_combs(self):
+        for at, (links, places) in enumerate(list(shaped_webs())[:20]):
+            web = Web(links, places)
+            net, lean, play = Network(web), Network(web.lean()), Play(web.tree)
+            plain = PlainNetwork(links, places)
+            for frame in drawn_frames(at, net.hosts, 40):
+                sight = plain.send(frame)
+                self.same([net.send(frame), lean.send(frame), play.send(frame)], [sight] * 3)
+            self.same_ports(net, plain)
+            self.same([net.outlook(), lean.outlook()], [play.outlook()] * 2)
 
     def test_drawn_trees(self):
         for tree in [*all_trees(letters(5)), Tree(*drawn_cuts(7, 40)), Tree(*caterpillar_cuts(12))]:
