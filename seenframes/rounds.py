@@ -18,8 +18,18 @@ class Rounds:
         if not isinstance(history, History):
             raise BadHistory(None)
         self._play = Play(ground.tree if isinstance(ground, Web) else ground)
-        self.opening = self._play.play(history)
-        self.later = self._play.play(history)
+        self._opening = self._play.play(history)
+        self._later = self._play.play(history)
+
+    @property
+    def opening(self):
+        """The tuple of the sights of round 0."""
+        return self._opening
+
+    @property
+    def later(self):
+        """The tuple of the sights of each later round."""
+        return self._later
 
     def outlook(self):
         """The outlook behind each round."""

@@ -65,6 +65,14 @@ CLASSES = {
     ("sure", "Sure"): ["__init__(self, four, answer, faults)", "__eq__(self, other)", "__bool__(self)"],
     ("sure", "Open"): ["__init__(self, four, trees)", "__eq__(self, other)", "__bool__(self)"],
 }
+# The properties that stand in the body of their class.
+PROPERTIES = {
+    ("frames", "Frame"): ["is_to_all"], ("frames", "History"): ["frames"], ("trees", "Tree"): ["links"],
+    ("webs", "Web"): ["links", "places", "tree"], ("tables", "Table"): ["is_tree"],
+    ("players", "Player"): ["frames", "sights"], ("networks", "Network"): ["web"],
+    ("rounds", "Rounds"): ["opening", "later"], ("notes", "Notes"): ["watchers", "history"],
+    ("records", "Record"): ["watchers"],
+}
 BASES = {"Network": "Player", "Play": "Player", "Record": "Notes", "Sure": "Finding", "Open": "Finding"}
 CLASS_METHODS = {"read", "of", "star", "of_tree", "seen_of"}
 SHOWN = {
@@ -127,6 +135,11 @@ class Interface(unittest.TestCase):
             for shown in told:
                 self.assertTrue(hasattr(thing, shown), f"{name}: {shown}")
                 self.assertFalse(inspect.ismethod(getattr(thing, shown)), f"{name}: {shown}")
+
+    def test_properties_stand_in_their_classes(self):
+        for (file, name), told in PROPERTIES.items():
+            for shown in told:
+                self.assertIsInstance(vars(vars(module(file))[name])[shown], property, f"{name}: {shown}")
 
     def test_class_values(self):
         found = [vars(vars(module(file))[name])["MOST"] for file, name in [

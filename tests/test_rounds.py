@@ -52,6 +52,16 @@ class Shown(Case):
             unlike += rounds.opening != rounds.later
         self.assertGreater(unlike, 20)
 
+    def test_the_same_again_behind_other_questions(self):
+        for ground, row in grounds():
+            rounds = Rounds(ground, row)
+            beside = player(ground)
+            shown = [beside.play(row), beside.play(row)]
+            for _ in range(2):
+                self.same([rounds.opening, rounds.later, rounds.shown_in(0), rounds.shown_in(1)], shown * 2)
+                host = ground.hosts[-1]
+                rounds.outlook(), rounds.count(host, 3), rounds.least(host, 3)
+
     def test_all_later_rounds(self):
         for k in (1, 2, 3, 10 ** 9, MOST - 1, MOST):
             self.same(Rounds(TREE, ROW).shown_in(k), (("c",), ("d",), ("c",)))
