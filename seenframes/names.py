@@ -43,6 +43,13 @@ def rows_in(hosts, many):
     return [(host, *row) for at, host in enumerate(hosts) for row in rows_in(hosts[at + 1:], many - 1)]
 
 
+def fours_in(hosts):
+    """The list of all ascending tuples of four of the hosts, ascending: rows_in(hosts, 4), told at once."""
+    many = len(hosts)
+    return [(hosts[a], hosts[b], hosts[c], hosts[d]) for a in range(many) for b in range(a + 1, many)
+            for c in range(b + 1, many) for d in range(c + 1, many)]
+
+
 def fours_of(hosts):
     """All ascending tuples of four of the hosts, ascending."""
     many = len(hosts)

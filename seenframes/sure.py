@@ -2,7 +2,7 @@
 
 from seenframes.checks import four_in, is_whole
 from seenframes.errors import NothingFits
-from seenframes.names import rows_in
+from seenframes.names import fours_in
 from seenframes.partings import answer_marked, answers_of
 from seenframes.trees import Tree, all_trees
 
@@ -69,7 +69,7 @@ def barren(record):
 
 def shows_finding(record, value):
     """Whether any value is what a record tells about four of its hosts."""
-    if not isinstance(value, Finding) or value.four not in rows_in(record.hosts, 4):
+    if not isinstance(value, Finding) or value.four not in fours_in(record.hosts):
         return False
     if isinstance(value, Sure):
         return shows_sure(record, value)

@@ -2,7 +2,7 @@
 
 from seenframes.checks import check_host, four_asked, four_in
 from seenframes.errors import BadAnswer, Misfit, Unlike
-from seenframes.names import ascending, hosts_of, rows_in
+from seenframes.names import ascending, fours_in, hosts_of
 from seenframes.partings import Parting, answer_marked
 from seenframes.trees import Tree, cut_behind
 from seenframes.trials import Trial
@@ -15,14 +15,13 @@ class Table:
 
     def __init__(self, hosts):
         self.hosts = hosts_of(hosts, self.MOST)
-        self.state = {four: None for four in rows_in(self.hosts, 4)}
+        self.state = {four: None for four in fours_in(self.hosts)}
 
     @classmethod
     def of_tree(cls, tree):
         """The table of a tree."""
         table = cls(tree.hosts)
-        for four in rows_in(tree.hosts, 4):
-            table[four] = answer_marked(tree.marks, four)
+        table.state = {four: answer_marked(tree.marks, four) for four in table.state}
         return table
 
     def __getitem__(self, at):
@@ -72,13 +71,11 @@ class Table:
         names = hosts_of(hosts)
         for name in names:
             check_host(self.hosts, name)
-        table = Table(names)
-        table.state = {four: self.state[four] for four in rows_in(names, 4)}
-        return table
+        return table_with(names, {four: self.state[four] for four in fours_in(names)})
 
     def twin(self):
         """A table of its own with the same answers."""
-        return self.only(self.hosts)
+        return table_with(self.hosts, {four: self.state[four] for four in self.state})
 
     def __eq__(self, other):
         if not isinstance(other, Table):
@@ -109,13 +106,26 @@ def check_alike(table, other):
         raise Unlike()
 
 
+def table_with(hosts, state):
+    """The table of an ascending tuple of hosts that has these answers."""
+    # A table of one host has no answers that would be made in vain.
+    table = Table(hosts[:1])
+    table.hosts = hosts
+    table.state = state
+    return table
+
+
 def first_misfit(table):
     """The first five hosts whose answers are not those of a tree of these five; None if there are none."""
-    # The property is_tree asks this: what yields is not run here, but the rows are told as a list.
-    for five in rows_in(table.hosts, 5):
-        answers = [table.state[five[:at] + five[at + 1:]] for at in range(5)]
-        if not fit_five([answer for answer in answers if answer is not None]):
-            return five
+    # The property is_tree asks this: so it goes over lists, not over what yields. What stands behind the first
+    # five that do not fit is not looked at.
+    state = table.state
+    for at, a in enumerate(table.hosts):
+        for b, c, d, e in fours_in(table.hosts[at + 1:]):
+            answers = [state[(b, c, d, e)], state[(a, c, d, e)], state[(a, b, d, e)], state[(a, b, c, e)],
+                       state[(a, b, c, d)]]
+            if not fit_five([answer for answer in answers if answer is not None]):
+                return (a, b, c, d, e)
     return None
 
 
@@ -124,6 +134,8 @@ def fit_five(partings):
     # A cut of five hosts has a pair on one side, and makes just the three partings with this pair. The
     # partings of a tree are those of its cuts. Two cuts that cross cannot both have all of theirs: they make
     # unlike partings of four hosts.
+    if len(partings) not in (0, 3, 5):
+        return False
     counts = {}
     for parting in partings:
         for pair in parting.pairs:

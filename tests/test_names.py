@@ -2,7 +2,7 @@ from itertools import combinations
 
 from seenframes.errors import BadHosts, TooMany
 from seenframes.frames import History
-from seenframes.names import fives_of, fours_of, hosts_of, is_name
+from seenframes.names import fives_of, fours_in, fours_of, hosts_of, is_name, rows_in
 from tests.support import Case, any_values, letters
 
 
@@ -85,6 +85,12 @@ class FoursAndFives(Case):
         for many in range(9):
             hosts = letters(many)
             self.same(list(fours_of(hosts)), list(combinations(hosts, 4)))
+
+    def test_lists_of_rows(self):
+        for many in range(9):
+            hosts = letters(many)
+            self.same([fours_in(hosts), rows_in(hosts, 2)],
+                      [list(combinations(hosts, 4)), list(combinations(hosts, 2))])
 
     def test_fives(self):
         for many in range(10):

@@ -1,4 +1,5 @@
 import random
+import time
 from itertools import combinations, permutations, product
 
 from seenframes.errors import BadAnswer, BadFour, BadHosts, Misfit, NoHost, TooMany, Unlike
@@ -264,6 +265,55 @@ class OfTrees(Case):
         table["a", "b", "g", "h"] = Parting(["a", "b"], ["g", "h"])
         self.same(first_misfit(table), ("a", "b", "c", "g", "h"))
         self.raises(Misfit(("a", "b", "c", "g", "h")), table.rebuilt)
+
+
+    def test_drawn_tables_beside_a_plain_look(self):
+        fitting = {}
+        for tree in all_trees(ABCDE):
+            fitting[tuple(tree(*four) and tree(*four).pairs for four in combinations(ABCDE, 4))] = True
+
+        def plain(table):
+            """The first five by a look at each five of the table, with other names."""
+            for five in combinations(table.hosts, 5):
+                names = dict(zip(five, ABCDE))
+                row = [table[four] for four in combinations(five, 4)]
+                pairs = [one and tuple(tuple(names[host] for host in pair) for pair in one.pairs) for one in row]
+                if tuple(pairs) not in fitting:
+                    return five
+            return None
+
+        for seed in range(60):
+            dice = random.Random(seed)
+            hosts = letters(dice.randint(6, 9))
+            table = Table.of_tree(Tree(*drawn_cuts(seed, len(hosts))))
+            for change in range(dice.randint(1, 4)):
+                four = tuple(sorted(dice.sample(hosts, 4)))
+                with table.trial():
+                    table[four] = dice.choice(answers_of(four))
+                    self.same([first_misfit(table), table.is_tree], [plain(table), plain(table) is None])
+                    twin = table.twin()
+                self.same(first_misfit(twin), plain(twin))
+                some = twin.only(dice.sample(hosts, 6))
+                self.same(first_misfit(some), plain(some))
+                table = twin if change % 2 == 0 else table
+                self.same(first_misfit(table), plain(table))
+
+    def test_ordinary_calls_are_quick(self):
+        table = Table.of_tree(Tree.star(*letters(12)))
+        table["a", "b", "c", "d"] = AB_CD
+        seven = Table(letters(7))
+
+        def timed(call):
+            start = time.perf_counter()
+            for _ in range(1000):
+                call()
+            return time.perf_counter() - start
+
+        self.assertLess(timed(lambda: table.is_tree), 0.4)
+        self.assertLess(timed(lambda: first_misfit(table)), 0.4)
+        self.assertLess(timed(lambda: Table(list(letters(12)))), 0.5)
+        self.assertLess(timed(seven.twin), 0.15)
+        self.assertLess(timed(lambda: table.only(letters(7))), 0.2)
 
 
 class Parts(Case):
