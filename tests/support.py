@@ -6,10 +6,13 @@ import unittest
 
 from seenframes import errors
 from seenframes.alikes import Shown
+from seenframes.clues import Clues, Strike
 from seenframes.cuts import Cut
 from seenframes.frames import Frame, History
 from seenframes.networks import Network
+from seenframes.nexts import Next
 from seenframes.partings import Parting
+from seenframes.plans import Ask, Known
 from seenframes.plays import Play
 from seenframes.records import Record
 from seenframes.rounds import Rounds
@@ -35,6 +38,8 @@ def any_values():
         errors.BadHosts(None), errors.Unlike(),
         tree, Web.of_tree(tree), Table.of_tree(tree), Network(tree), Play(tree), Record(tree.hosts),
         Rounds(tree, History()), Shown(History(), "zz"), Sure(tree.hosts, None, ()), Open(tree.hosts, (tree, tree)),
+        Clues(tree.hosts), Strike(tree.hosts, None, ("barred", 0)), Next(Frame("zz"), 1, ()), Known((tree,)),
+        Ask(Frame("zz"), (((), Known(())),)),
     ]
 
 

@@ -14,6 +14,11 @@ FUNCTIONS = {
     "alikes": ["alike(one, other)", "first_unlike(one, other, history)", "show_unlike(one, other)",
                "shows_unlike(one, other, value)"],
     "sure": ["judge(record, four)", "barren(record)", "shows_finding(record, value)", "shows_barren(record, value)"],
+    "clues": ["shows_strikes(clues, value)"],
+    "later": ["apart(one, other, history)", "closed(one, other, history)", "shows_apart(one, other, history, value)",
+              "shows_closed(one, other, history, value)"],
+    "nexts": ["next_frame(record)"],
+    "plans": ["least_plan(record)", "shows_plan(record, value)"],
 }
 # A plain name is an attribute or a property, the rest are the constructor and the methods.
 CLASSES = {
@@ -64,6 +69,13 @@ CLASSES = {
     ("sure", "Finding"): ["__bool__(self)"],
     ("sure", "Sure"): ["__init__(self, four, answer, faults)", "__eq__(self, other)", "__bool__(self)"],
     ("sure", "Open"): ["__init__(self, four, trees)", "__eq__(self, other)", "__bool__(self)"],
+    ("clues", "Clues"): [
+        "__init__(self, hosts)", "left(self, four)", "is_barred(self)", "told(self)", "rebuilt(self)", "strikes(self)"],
+    ("clues", "Strike"): ["__init__(self, four, answer, reason)", "__eq__(self, other)"],
+    ("nexts", "Next"): ["__init__(self, frame, worst, groups)", "__eq__(self, other)"],
+    ("plans", "Plan"): [],
+    ("plans", "Known"): ["__init__(self, trees)", "__eq__(self, other)"],
+    ("plans", "Ask"): ["__init__(self, frame, cases)", "__eq__(self, other)"],
 }
 # The properties that stand in the body of their class.
 PROPERTIES = {
@@ -71,9 +83,11 @@ PROPERTIES = {
     ("webs", "Web"): ["links", "places", "tree"], ("tables", "Table"): ["is_tree"],
     ("players", "Player"): ["frames", "sights"], ("networks", "Network"): ["web"],
     ("rounds", "Rounds"): ["opening", "later"], ("notes", "Notes"): ["watchers", "history"],
-    ("records", "Record"): ["watchers"],
+    ("records", "Record"): ["watchers"], ("plans", "Plan"): ["depth"], ("plans", "Known"): ["depth"],
+    ("plans", "Ask"): ["depth"],
 }
-BASES = {"Network": "Player", "Play": "Player", "Record": "Notes", "Sure": "Finding", "Open": "Finding"}
+BASES = {"Network": "Player", "Play": "Player", "Record": "Notes", "Sure": "Finding", "Open": "Finding",
+         "Clues": "Notes", "Known": "Plan", "Ask": "Plan"}
 CLASS_METHODS = {"read", "of", "star", "of_tree", "seen_of"}
 SHOWN = {
     "Frame": ["sender", "target", "is_to_all"], "History": ["frames", "hosts", "MOST"],
@@ -83,6 +97,8 @@ SHOWN = {
     "Play": ["hosts", "frames", "sights"], "Shown": ["history", "host"],
     "Rounds": ["opening", "later"], "Record": ["hosts", "watchers", "history", "MOST", "LONGEST"],
     "Sure": ["four", "answer", "faults"], "Open": ["four", "trees"],
+    "Clues": ["hosts", "watchers", "history", "MOST", "LONGEST"], "Strike": ["four", "answer", "reason"],
+    "Next": ["frame", "worst", "groups"], "Known": ["trees", "depth"], "Ask": ["frame", "cases", "depth"],
 }
 
 
@@ -103,7 +119,9 @@ def made(name):
         "Shown": lambda: module("alikes").Shown(module("frames").History(), "a"),
         "Rounds": lambda: module("rounds").Rounds(tree, module("frames").History()),
         "Record": lambda: module("records").Record(["a"]), "Sure": lambda: module("sure").Sure((), None, ()),
-        "Open": lambda: module("sure").Open((), ()),
+        "Open": lambda: module("sure").Open((), ()), "Clues": lambda: module("clues").Clues(["a"]),
+        "Strike": lambda: module("clues").Strike((), None, ()), "Next": lambda: module("nexts").Next(None, 1, ()),
+        "Known": lambda: module("plans").Known(()), "Ask": lambda: module("plans").Ask(None, ()),
     }[name]()
 
 
@@ -143,9 +161,11 @@ class Interface(unittest.TestCase):
 
     def test_class_values(self):
         found = [vars(vars(module(file))[name])["MOST"] for file, name in [
-            ("frames", "History"), ("trees", "Tree"), ("tables", "Table"), ("records", "Record")]]
-        self.assertEqual(found, [60, 40, 12, 6])
+            ("frames", "History"), ("trees", "Tree"), ("tables", "Table"), ("records", "Record"),
+            ("clues", "Clues")]]
+        self.assertEqual(found, [60, 40, 12, 6, 9])
         self.assertEqual(vars(module("records").Record)["LONGEST"], 20)
+        self.assertEqual(vars(module("clues").Clues)["LONGEST"], 30)
 
     def test_watchers_can_be_set(self):
         record = module("records").Record
