@@ -4,8 +4,7 @@ from seenframes.alikes import first_unlike
 from seenframes.checks import check_host
 from seenframes.errors import TooMany, Unlike
 from seenframes.frames import History
-from seenframes.plays import Play
-from seenframes.views import Views, exchanged, frame_of, known_by, moves_among, outlook_told
+from seenframes.views import Views, exchanged, frame_of, moves_among, moves_of, outlook_told, played
 
 # The most hosts, and the most frames of a history.
 MOST_HOSTS = 5
@@ -89,9 +88,7 @@ def steps_behind(one, other, history):
     whose outlooks are unlike, if there is one. Both trees show the same at the history."""
     views = Views(one)
     others = Views(other)
-    play = Play(one)
-    play.play(history)
-    known = known_by(play)
+    known = played(views, moves_of(one.hosts, history))[0]
     steps = [(views.outlook(known), others.outlook(known), known, -1, None)]
     found = {steps[0][0]: True}
     at = 0

@@ -1,8 +1,7 @@
 """Which frame tells most about the trees that fit a record."""
 
 from seenframes.errors import NothingFits
-from seenframes.plays import Play
-from seenframes.views import Views, bits_among, frame_of, hosts_among, known_by, moves_among
+from seenframes.views import Views, bits_among, frame_of, hosts_among, moves_among, moves_of, played
 
 
 class Next:
@@ -37,9 +36,8 @@ def next_frame(record):
 
 def outlook_behind(tree, history):
     """The outlook of a tree behind a history, in bits."""
-    play = Play(tree)
-    play.play(history)
-    return Views(tree).outlook(known_by(play))
+    views = Views(tree)
+    return views.outlook(played(views, moves_of(tree.hosts, history))[0])
 
 
 def counts_of(items):

@@ -1,10 +1,9 @@
 """Plans: which frames to send, one behind the other, until all is known that can be known."""
 
 from seenframes.errors import BadSight, NothingFits, TooMany
-from seenframes.frames import Frame
+from seenframes.frames import Frame, History
 from seenframes.later import apart
-from seenframes.plays import Play
-from seenframes.views import Views, exchanged, frame_of, hosts_among, known_by, moves_among
+from seenframes.views import Views, exchanged, frame_of, hosts_among, moves_among, moves_of, played
 
 # The most hosts of a record, and the greatest depth of a plan that is looked at.
 MOST_HOSTS = 4
@@ -97,7 +96,7 @@ def least_plan(record):
         raise NothingFits()
     search = Search(record.hosts, trees, record.history)
     left = tuple(range(len(trees)))
-    known = known_behind(trees[0], record.history)
+    known = known_behind(search, record.history)
     if least_depth(search, left, known) is None:
         return None
     return plan_behind(search, left, known)
@@ -111,11 +110,9 @@ def check_record(record):
         raise BadSight(record.watchers)
 
 
-def known_behind(tree, history):
-    """The seers of each host of a tree behind a history, in bits."""
-    play = Play(tree)
-    play.play(history)
-    return known_by(play)
+def known_behind(search, history):
+    """What is known behind a row of frames that all trees show alike."""
+    return played(search.views[0], moves_of(search.hosts, history))[0]
 
 
 def is_settled(search, left):
@@ -205,7 +202,7 @@ def shows_plan(record, value):
         return False
     search = Search(record.hosts, trees, record.history)
     left = tuple(range(len(trees)))
-    return is_plan(search, left, known_behind(trees[0], record.history), value, MOST_DEPTH)
+    return is_plan(search, left, known_behind(search, record.history), value, MOST_DEPTH)
 
 
 def is_plan(search, left, known, value, most):
@@ -215,7 +212,7 @@ def is_plan(search, left, known, value, most):
         return isinstance(value.trees, tuple) and value.trees == trees and is_settled(search, left)
     if not isinstance(value, Ask) or most == 0 or not is_frame_of(search.hosts, value.frame):
         return False
-    move = places_of(search.hosts, value.frame)
+    move = moves_of(search.hosts, History(value.frame))[0]
     cases = cases_of(outlooks_of(search, left, known), known, move)
     sights = {hosts_among(search.hosts, sight): sight for sight in cases}
     if not are_cases(value.cases, sorted(set(list(sights)))):
@@ -228,11 +225,6 @@ def is_plan(search, left, known, value, most):
 def is_frame_of(hosts, value):
     """Whether any value is a frame of one of the hosts, to another one or to all."""
     return isinstance(value, Frame) and value.sender in hosts and (value.is_to_all or value.target in hosts)
-
-
-def places_of(hosts, frame):
-    """The pair of places that tells a frame."""
-    return (hosts.index(frame.sender), -1 if frame.is_to_all else hosts.index(frame.target))
 
 
 def are_cases(value, sights):

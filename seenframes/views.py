@@ -9,6 +9,7 @@ class Views:
 
     def __init__(self, tree):
         marks = list(tree.marks.values())
+        self.basis = tree
         self.hosts = tree.hosts
         self.unlike = [[mark ^ other for other in marks] for mark in marks]
         self.rows = {}
@@ -53,9 +54,21 @@ def frame_of(hosts, move):
     return Frame(hosts[sender], None if target < 0 else hosts[target])
 
 
-def known_by(player):
-    """The seers of each host behind the frames that were sent."""
-    return tuple([bits_among(player.hosts, player.seers(host)) for host in player.hosts])
+def moves_of(hosts, history):
+    """The list of the frames of a row as pairs of places."""
+    places = {host: at for at, host in enumerate(hosts)}
+    return [(places[frame.sender], -1 if frame.is_to_all else places[frame.target]) for frame in history.frames]
+
+
+def played(views, moves):
+    """What is known behind some frames that are sent one behind the other from the beginning, and their sights."""
+    known = [0] * len(views.hosts)
+    sights = []
+    for sender, target in moves:
+        sight = views.sight(sender, target, 0) if target < 0 else views.row(target, known[target])[sender]
+        known[sender] = known[sender] | sight
+        sights.append(sight)
+    return (tuple(known), tuple(sights))
 
 
 def bits_among(hosts, some):

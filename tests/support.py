@@ -8,6 +8,8 @@ from seenframes import errors
 from seenframes.alikes import Shown
 from seenframes.clues import Clues, Strike
 from seenframes.cuts import Cut
+from seenframes.desk import Desk
+from seenframes.everytree import Difference
 from seenframes.frames import Frame, History
 from seenframes.networks import Network
 from seenframes.nexts import Next
@@ -39,7 +41,7 @@ def any_values():
         tree, Web.of_tree(tree), Table.of_tree(tree), Network(tree), Play(tree), Record(tree.hosts),
         Rounds(tree, History()), Shown(History(), "zz"), Sure(tree.hosts, None, ()), Open(tree.hosts, (tree, tree)),
         Clues(tree.hosts), Strike(tree.hosts, None, ("barred", 0)), Next(Frame("zz"), 1, ()), Known((tree,)),
-        Ask(Frame("zz"), (((), Known(())),)),
+        Ask(Frame("zz"), (((), Known(())),)), Difference(tree, Frame("zw", "zx"), "zy"), Desk(),
     ]
 
 

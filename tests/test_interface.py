@@ -19,6 +19,10 @@ FUNCTIONS = {
               "shows_closed(one, other, history, value)"],
     "nexts": ["next_frame(record)"],
     "plans": ["least_plan(record)", "shows_plan(record, value)"],
+    "everytree": ["left_alike(one, other)", "difference(one, other)", "shows_difference(one, other, value)",
+                  "idle(history)", "thinned(history)", "exchangeable(history, k)", "untold(history, four)"],
+    "texts": ["web_text(web)", "record_text(record)"],
+    "reader": ["read_web(text)", "read_record(text)"],
 }
 # A plain name is an attribute or a property, the rest are the constructor and the methods.
 CLASSES = {
@@ -76,6 +80,10 @@ CLASSES = {
     ("plans", "Plan"): [],
     ("plans", "Known"): ["__init__(self, trees)", "__eq__(self, other)"],
     ("plans", "Ask"): ["__init__(self, frame, cases)", "__eq__(self, other)"],
+    ("everytree", "Difference"): ["__init__(self, tree, frame, host)", "__eq__(self, other)"],
+    ("desk", "Desk"): [
+        "__init__(self)", "ask(self, line)", "__call__(self, line)", "run(self, *lines)", "twin_network(self)",
+        "twin_record(self)", "__len__(self)"],
 }
 # The properties that stand in the body of their class.
 PROPERTIES = {
@@ -84,7 +92,7 @@ PROPERTIES = {
     ("players", "Player"): ["frames", "sights"], ("networks", "Network"): ["web"],
     ("rounds", "Rounds"): ["opening", "later"], ("notes", "Notes"): ["watchers", "history"],
     ("records", "Record"): ["watchers"], ("plans", "Plan"): ["depth"], ("plans", "Known"): ["depth"],
-    ("plans", "Ask"): ["depth"],
+    ("plans", "Ask"): ["depth"], ("desk", "Desk"): ["ground"],
 }
 BASES = {"Network": "Player", "Play": "Player", "Record": "Notes", "Sure": "Finding", "Open": "Finding",
          "Clues": "Notes", "Known": "Plan", "Ask": "Plan"}
@@ -99,6 +107,7 @@ SHOWN = {
     "Sure": ["four", "answer", "faults"], "Open": ["four", "trees"],
     "Clues": ["hosts", "watchers", "history", "MOST", "LONGEST"], "Strike": ["four", "answer", "reason"],
     "Next": ["frame", "worst", "groups"], "Known": ["trees", "depth"], "Ask": ["frame", "cases", "depth"],
+    "Difference": ["tree", "frame", "host"], "Desk": ["ground"],
 }
 
 
@@ -122,6 +131,7 @@ def made(name):
         "Open": lambda: module("sure").Open((), ()), "Clues": lambda: module("clues").Clues(["a"]),
         "Strike": lambda: module("clues").Strike((), None, ()), "Next": lambda: module("nexts").Next(None, 1, ()),
         "Known": lambda: module("plans").Known(()), "Ask": lambda: module("plans").Ask(None, ()),
+        "Difference": lambda: module("everytree").Difference(None, None, None), "Desk": lambda: module("desk").Desk(),
     }[name]()
 
 
