@@ -124,17 +124,18 @@ def first_misfit(table):
         for b, c, d, e in fours_in(table.hosts[at + 1:]):
             answers = [state[(b, c, d, e)], state[(a, c, d, e)], state[(a, b, d, e)], state[(a, b, c, e)],
                        state[(a, b, c, d)]]
-            if not fit_five([answer for answer in answers if answer is not None]):
+            partings = [answer for answer in answers if answer is not None]
+            if partings and not fit_five(partings):
                 return (a, b, c, d, e)
     return None
 
 
 def fit_five(partings):
-    """Whether the partings among the answers of five hosts are those of a tree of the five."""
+    """Whether the partings among the answers of five hosts are those of a tree of the five. There are some."""
     # A cut of five hosts has a pair on one side, and makes just the three partings with this pair. The
     # partings of a tree are those of its cuts. Two cuts that cross cannot both have all of theirs: they make
     # unlike partings of four hosts.
-    if len(partings) not in (0, 3, 5):
+    if len(partings) not in (3, 5):
         return False
     counts = {}
     for parting in partings:

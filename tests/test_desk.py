@@ -8,6 +8,7 @@ from seenframes.errors import (
 from seenframes.frames import Frame, History
 from seenframes.networks import Network
 from seenframes.nexts import next_frame
+from seenframes.plans import least_plan
 from seenframes.records import Record
 from seenframes.rounds import Rounds
 from seenframes.sure import judge
@@ -218,6 +219,24 @@ class Sessions(Case):
         for line in ["tree none note saw watch", "watch saw watch", "note saw watch saw watch", "note note saw saw saw",
                      "judge saw note none watch", "trees", "next", "undo", "trees", "same none note saw watch"]:
             self.same(desk(line), plain.ask(line))
+
+    def test_judged(self):
+        desk = Desk()
+        lines = ["tree a b (c h)", "judge a b c h", "note b c saw a c h", "note c b saw b", "note a c saw c h",
+                 "judge h c b a", "trees", "undo", "note a c saw c", "judge h c b a", "note a h saw b c h",
+                 "note h a saw a", "note c a saw a", "judge a b c h", "watch a", "note b c saw a", "note c b saw -",
+                 "note b a saw a", "judge a b c h"]
+        answers = desk.run(*lines)
+        plain = PlainDesk()
+        self.same(answers, [plain.ask(line) for line in lines])
+        self.same([answers[1], answers[5]], ["open 4", "sure a h / b c"])
+        star, net, plan = Desk(), Network(Tree.star(*"abch")), least_plan(Record(tuple("abch")))
+        star("tree a b c h")
+        while plan.depth:
+            sight = net.send(plan.frame)
+            star(f"note {plan.frame} saw {' '.join(sight)}")
+            plan = dict(plan.cases)[sight]
+        self.same(star.run("trees", "judge a b c h"), ["a b c h", "sure none"])
 
     def test_numbers_of_rounds(self):
         desk = Desk()
