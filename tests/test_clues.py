@@ -14,6 +14,7 @@ from seenframes.tables import Table
 from seenframes.trees import Tree, all_trees
 from tests.support import (
     Case, any_values, caterpillar_cuts, drawn_cuts, drawn_frames, letters, no_grounds)
+from tests.test_players import no_trees_table
 
 ABCDE = letters(5)
 FIVE_TREES = [{four: tree(*four) for four in combinations(ABCDE, 4)} for tree in all_trees(ABCDE)]
@@ -157,6 +158,9 @@ class Ends(Case):
         for seed in range(160):
             tree, notes = drawn(seed)
             if seed % 5 == 0:
+                notes = notes_of(seed, tree, 30, frames=telling_frames(seed, tree.hosts))
+            if seed % 5 == 1:
+                tree = no_trees_table(seed, 4 + seed % 3)
                 notes = notes_of(seed, tree, 30, frames=telling_frames(seed, tree.hosts))
             clues = clues_of(tree.hosts, notes)
             plain = PlainSieve(tree.hosts, notes)
@@ -343,6 +347,23 @@ class Shows(Case):
                 self.same(shows_strikes(clues, list(strikes)), False)
         self.assertEqual(reasons, {"seen", "unseen", "five", "barred"})
 
+    def test_a_four_without_answers_bars_all(self):
+        found = 0
+        for seed in range(40):
+            table = no_trees_table(seed, 5 + seed % 2)
+            notes = notes_of(seed, table, 0, frames=telling_frames(seed, table.hosts))
+            plain = PlainSieve(table.hosts, notes)
+            clues = clues_of(table.hosts, notes)
+            self.same(plain.barred_by(), [])
+            if clues.is_barred():
+                for strike in clues.strikes():
+                    self.assertIn((strike.four, strike.answer, strike.reason), plain.possible())
+                    plain.strike(strike.four, strike.answer)
+                self.same([answers for answers in plain.left.values() if answers], [])
+                self.same(len(clues.strikes()), 4 * len(plain.left))
+                found += clues.strikes()[-1].reason[0] == "barred"
+        self.assertGreater(found, 4)
+
     def test_strikes_in_another_order(self):
         early = 0
         for seed in range(80):
@@ -371,6 +392,37 @@ class Shows(Case):
                     self.same(shows_strikes(clues, value), wanted)
                     answers[wanted] += 1
         self.assertGreater(min(answers.values()), 40)
+
+    def test_each_kind_of_reason_otherwise(self):
+        many = {}
+        for seed in range(36):
+            tree = Tree(*caterpillar_cuts(4 + seed % 3)) if seed % 2 else Tree(*drawn_cuts(seed, 4 + seed % 3))
+            hosts, dice = tree.hosts, random.Random(seed)
+            notes = notes_of(seed, tree, 0, 0.05 if seed % 4 == 0 else 0, telling_frames(seed, hosts)[:18])
+            clues, plain = clues_of(hosts, notes), PlainSieve(hosts, notes)
+            struck = plain.to_the_end(dice)
+            kinds = {}
+            for at, row in enumerate(struck):
+                kinds.setdefault((row[2][0], len(row[2][1]) if row[2][0] == "barred" and row[2][1] in plain.left else 0),
+                                 []).append(at)
+            for kind, places in kinds.items():
+                at = dice.choice(places)
+                plain = PlainSieve(hosts, notes)
+                for row in struck[:at]:
+                    plain.strike(*row[:2])
+                possible = plain.possible()
+                four, answer, reason = struck[at]
+                rows = [(other, further, reason) for other in combinations(hosts, 4) for further in answers_of(other)]
+                things = [*hosts, *range(-1, len(notes) + 1), *combinations(hosts, 4), *combinations(hosts, 5), "seen",
+                          "unseen", "five", "barred"]
+                rows.extend((four, further, reason[:k] + (thing,) + reason[k + 1:]) for k in range(len(reason))
+                            for thing in things for further in answers_of(four))
+                for row in rows:
+                    wanted = row in possible
+                    self.same(shows_strikes(clues, told_as(struck[:at] + [row])), wanted)
+                    many[kind + (wanted,)] = many.get(kind + (wanted,), 0) + 1
+        for kind in [("seen", 0), ("unseen", 0), ("five", 0), ("barred", 0), ("barred", 4)]:
+            self.assertGreater(min(many[kind + (True,)], many[kind + (False,)]), 15, many)
 
     def test_wrong_values(self):
         clues = clues_of(ABCDE, notes_of(2, Tree(*drawn_cuts(2, 5)), 12))
@@ -543,6 +595,14 @@ class AsNotes(Case):
             clues = clues_of(ABCDE, notes)
             clues.left(letters(4)), clues.rebuilt(), shows_strikes(clues, clues.strikes())
         self.assertLess((time.perf_counter() - start) / len(rows), 0.02)
+
+    def test_many_questions_behind_the_same_notes(self):
+        tree = Tree(*caterpillar_cuts(9))
+        clues = clues_of(tree.hosts, notes_of(1, tree, 30))
+        start = time.perf_counter()
+        for _ in range(1000):
+            clues.left(letters(4)), clues.is_barred()
+        self.assertLess(time.perf_counter() - start, 1)
 
     def test_all_is_told_where_each_four_has_one_answer(self):
         found = 0
