@@ -1,7 +1,6 @@
 """Whether two trees can be told apart behind a row of frames, or are alike for ever."""
 
 from seenframes.alikes import first_unlike
-from seenframes.checks import check_host
 from seenframes.errors import TooMany, Unlike
 from seenframes.frames import History
 from seenframes.views import Views, exchanged, frame_of, moves_among, moves_of, outlook_told, played
@@ -22,8 +21,8 @@ def apart(one, other, history):
     frame = first_telling(steps[-1])
     if frame is None:
         return None
-    moves = [frame, *moves_to(steps)]
-    frames = [*history.frames, *[frame_of(one.hosts, move) for move in reversed(moves)]]
+    behind = [frame_of(one.hosts, move) for move in [*moves_to(steps), frame]]
+    frames = [*history.frames, *behind]
     return History(*frames)
 
 
@@ -42,7 +41,7 @@ def closed(one, other, history):
 def shows_apart(one, other, history, value):
     """Whether any value is a row of frames at whose last frame alone two trees show unlike sights, and which begins
     with a history, or is a beginning of it."""
-    if not is_asked(one, other, history) or not isinstance(value, History) or len(value) == 0:
+    if not is_asked(one, other, history) or not isinstance(value, History):
         return False
     if not all([host in one.hosts for host in value.hosts]):
         return False
@@ -64,15 +63,13 @@ def shows_closed(one, other, history, value):
 
 
 def check_asked(one, other, history):
-    """Raises what is wrong with two trees and a history."""
+    """Raises what is wrong with two trees and a history, but for hosts that the history names: it is played then."""
     if one.hosts != other.hosts:
         raise Unlike()
     if len(one.hosts) > MOST_HOSTS:
         raise TooMany("hosts", MOST_HOSTS)
     if len(history) > MOST_FRAMES:
         raise TooMany("frames", MOST_FRAMES)
-    for host in history.hosts:
-        check_host(one.hosts, host)
 
 
 def is_asked(one, other, history):
@@ -113,7 +110,7 @@ def steps_from(views, others, step, at):
         # What nobody has seen yet is seen by all others, as a frame to all is.
         sight = views.sight(sender, target, 0) if target < 0 else outlook[target][sender]
         seers = known[sender] | sight
-        if views.row(sender, seers) != outlook[sender] or others.row(sender, seers) != outlook[sender]:
+        if seers != known[sender]:
             rows.append((exchanged(outlook, sender, views.row(sender, seers)),
                          exchanged(outlook, sender, others.row(sender, seers)),
                          exchanged(known, sender, seers), at, (sender, target)))
@@ -131,13 +128,13 @@ def first_telling(step):
 
 
 def moves_to(steps):
-    """The frames that lead to the last one of some steps, the last one first."""
+    """The list of the frames, as pairs of places, that lead to the last one of some steps."""
     moves = []
     step = steps[-1]
     while step[3] >= 0:
         moves.append(step[4])
         step = steps[step[3]]
-    return moves
+    return moves[::-1]
 
 
 def is_outlook(value):

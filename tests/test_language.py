@@ -402,6 +402,12 @@ class Values(unittest.TestCase):
                         over = above[over]
                     self.assertIn(called(over), ("sorted", "len"), f"{name}: {ast.unparse(over)}")
 
+    def test_what_is_reversed(self):
+        # The package has classes with items.
+        for name, node in nodes(ast.Call):
+            if called(node) == "reversed":
+                self.assertIn(called(node.args[0]), ("list", "tuple", "sorted", "range"), ast.unparse(node))
+
     def test_stars(self):
         for name, node in nodes(ast.Call):
             for at, part in enumerate(node.args):
