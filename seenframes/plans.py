@@ -209,7 +209,7 @@ def is_plan(search, left, known, value, most):
     """Whether any value is a plan for the trees that are left, at most so deep."""
     if isinstance(value, Known):
         trees = tuple([search.trees[at] for at in left])
-        return isinstance(value.trees, tuple) and value.trees == trees and is_settled(search, left)
+        return value.trees == trees and is_settled(search, left)
     if not isinstance(value, Ask) or most == 0 or not is_frame_of(search.hosts, value.frame):
         return False
     move = moves_of(search.hosts, History(value.frame))[0]

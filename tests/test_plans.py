@@ -225,6 +225,33 @@ class Plans(Case):
             depths.add(plan and plan.depth)
         self.assertGreaterEqual(depths, {None, 0, 1, 2, 4, 5})
 
+    def test_plans_that_begin_otherwise_are_longer(self):
+        # Behind these rows some frame ahead of the right one spends nothing, but tells nothing either.
+        for text in ["d a, c d, b *, a b", "c *, b d, d c, a b", "d c, b *, a d, c b", "d a, b c, c b, a d",
+                     "c d, b a, d b, a c", "c *, d b, a c, b d", "c a, d *, b c, a d", "b c, c b, a c, d b",
+                     "d a, a d, c d, b c", "d *, b a, a b, c d", "b a, c *, d c, a b, b *", "b *, b c, c b, d b, a d",
+                     "d b, c d, b a, c d, a b", "b a, d a, a d, b *, c b"]:
+            record = Record.seen_of(STAR, History.read(text))
+            plan = least_plan(record)
+            self.same([plan.depth, shows_plan(record, plan), plain_shows(record, plan)], [1, True, True])
+            telling = [frame for frame in frames_among(record.hosts)
+                       if len({Network.send(net, frame) for net in self.nets(record)}) > 1]
+            self.assertIn(plan.frame, telling)
+
+    def nets(self, record):
+        """Networks of the trees that fit, behind the notes."""
+        found = [Network(tree) for tree in record.fitting()]
+        for net in found:
+            net.play(record.history)
+        return found
+
+    def test_frames_of_no_hosts(self):
+        record = Record(letters(4))
+        plan = least_plan(record)
+        for frame in (Frame("a", "x"), Frame("x", "a"), Frame("x"), Frame("x", "y")):
+            for value in (Ask(frame, plan.cases), Ask(frame, ((letters(4)[1:], plan),)), Ask(frame, ((("x",), plan),))):
+                self.same(shows_plan(record, value), False)
+
     def test_no_notes(self):
         plan = self.soon(least_plan, Record(letters(4)))
         self.same([plan.depth, shows_plan(Record(letters(4)), plan)], [6, True])
