@@ -102,7 +102,8 @@ def rounds_counted(state, said):
 
 def trees_told(state, _):
     """The texts of the trees that fit the record."""
-    trees = [str(tree) for tree in state[2].fitting()]
+    record = state[2]
+    trees = [str(tree) for tree in record.fitting()]
     return " ; ".join(trees) if trees else "none"
 
 
