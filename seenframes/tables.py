@@ -3,7 +3,7 @@
 from seenframes.checks import check_host, four_asked, four_in
 from seenframes.errors import BadAnswer, Misfit, Unlike
 from seenframes.names import ascending, fours_in, hosts_of
-from seenframes.partings import Parting, answer_marked
+from seenframes.partings import Parting, answer_marked, parts
 from seenframes.trees import Tree, cut_behind
 from seenframes.trials import Trial
 
@@ -62,9 +62,7 @@ class Table:
         five = first_misfit(self)
         if five is not None:
             raise Misfit(five)
-        pairs = [answer.pairs for answer in self.state.values() if answer is not None]
-        sides = {side_with(self, one, other): True for one, other in pairs}
-        return Tree(self.hosts, [cut_behind(self.hosts, side) for side in sides])
+        return Tree(self.hosts, [cut_behind(self.hosts, side) for side in sides_of(self)])
 
     def only(self, hosts):
         """The table of some of the hosts."""
@@ -144,11 +142,31 @@ def fit_five(partings):
     return all([counts[parting.pairs[0]] == 3 or counts[parting.pairs[1]] == 3 for parting in partings])
 
 
+def sides_of(table):
+    """A list with a side of each cut of the table's tree."""
+    marks = {host: 0 for host in table.hosts}
+    sides = []
+    for answer in table.state.values():
+        # For each cut there is a parting that no other one makes: it is found then at the latest.
+        if answer is not None and not is_parted(marks, answer):
+            side = side_with(table, answer.pairs[0], answer.pairs[1])
+            for host in side:
+                marks[host] = marks[host] | (1 << len(sides))
+            sides.append(side)
+    return sides
+
+
+def is_parted(marks, parting):
+    """Whether one of some sides, which the bits of hosts tell, has just one pair of a parting."""
+    one, other = parting.pairs
+    return parts(marks, one[0], one[1], other[0], other[1])
+
+
 def side_with(table, one, other):
     """The side with the pair `one` of a cut of the table's tree that makes `one / other`."""
     # Of the cuts that make it this is the last one on the way to the pair `other`: the hosts on its other side
-    # leave the way where `other` parts. Each cut is found, as some parting is made by no other one: both of
-    # its ends have at least two ways on, and the parting takes a host behind each.
+    # leave the way where `other` parts. Each cut alone makes some parting: both of its ends have at least two
+    # ways on, and the parting takes a host behind each.
     return tuple([host for host in table.hosts if host in one or is_beside(table, host, one[0], other)])
 
 
